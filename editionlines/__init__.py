@@ -1,0 +1,1 @@
+"""Editionlines: lines, releases, tries and days, decided for all histories."""

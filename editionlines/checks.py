@@ -1,0 +1,18 @@
+"""What kind of value any value is."""
+
+
+def is_integer(value):
+    """Whether a value is an int, but no bool."""
+    return isinstance(value, int) and not isinstance(value, bool)
+
+
+def is_within(value, least, most):
+    """Whether a value is an integer from least to most."""
+    return is_integer(value) and least <= value <= most
+
+
+def is_fix(value):
+    """Whether a value is a string of 1 to 8 letters from a to z."""
+    if not isinstance(value, str) or not 1 <= len(value) <= 8:
+        return False
+    return all(["a" <= letter <= "z" for letter in value])
