@@ -30,6 +30,9 @@ def read_clauses(words):
     for first, row in pieces(words, 0, ";"):
         if not row or len(clauses) == MOST_CLAUSES:
             raise BadText(0, first)
+        # No clause of a lesser kind is greater, whatever follows this word.
+        if clauses and row[0] < clauses[-1].kind:
+            raise BadText(0, first)
         try:
             clause = Clause.read(" ".join(row))
         except BadText as error:
