@@ -1,10 +1,8 @@
 """What deeds are made of, as plain values: checked, read from words, and cut down."""
 
+from editionlines.bounds import DAYS, LINES
 from editionlines.checks import is_fix, is_integer, is_within
 from editionlines.errors import BadDeed, BadFix, NoDay, NoLine
-
-MOST_LINE = 6
-MOST_DAY = 200
 
 
 def checked_fix(fix):
@@ -16,7 +14,7 @@ def checked_fix(fix):
 
 def checked_line(line, least=1):
     """A value, which must be the number of a line, and least or more."""
-    if not is_within(line, least, MOST_LINE):
+    if not is_within(line, least, LINES):
         raise NoLine(line)
     return line
 
@@ -30,7 +28,7 @@ def checked_mate(mate, line):
 
 def checked_day(day, least=1):
     """A value, which must be the number of a day, and least or more."""
-    if not is_within(day, least, MOST_DAY):
+    if not is_within(day, least, DAYS):
         raise NoDay(day)
     return day
 
@@ -80,28 +78,28 @@ def take_named(words, kind):
         return (words.take_fix(),)
     if kind in ("carry", "drop"):
         fix = words.take_fix()
-        return (fix, words.take_number(1, MOST_LINE))
+        return (fix, words.take_number(1, LINES))
     if kind == "cut":
         return ()
     if kind in ("try", "probe", "meet"):
-        line = words.take_number(1, MOST_LINE)
+        line = words.take_number(1, LINES)
         return (line, take_mate(words, kind, line))
     if kind in ("redo", "shut"):
-        return (words.take_number(1, MOST_DAY),)
+        return (words.take_number(1, DAYS),)
     if kind == "renew":
-        return take_rising(words, MOST_DAY)
+        return take_rising(words, DAYS)
     if kind in ("rise", "night"):
-        return take_rising(words, MOST_LINE)
-    return (words.take_number(1, MOST_LINE),)
+        return take_rising(words, LINES)
+    return (words.take_number(1, LINES),)
 
 
 def take_mate(words, kind, line):
     """The next one of some Words, which must be the number of a mate of a line."""
     if kind != "probe":
-        return words.take_number(line + 1, MOST_LINE)
+        return words.take_number(line + 1, LINES)
     if words.is_next(str(line)):
         words.refuse()
-    return words.take_number(1, MOST_LINE)
+    return words.take_number(1, LINES)
 
 
 def take_rising(words, most):

@@ -1,5 +1,6 @@
 """What a project is at a moment."""
 
+from editionlines.bounds import DAYS, LINES, RELEASES
 from editionlines.checks import is_within
 from editionlines.deeds import Deed, OfDay, OfTwo, OnMain
 from editionlines.errors import BadDeed, BadLot, BadPlace, EditionError, NoDay, NoLine, TooMany, Undone
@@ -7,9 +8,6 @@ from editionlines.lots import Lot
 from editionlines.papers import Paper, kept
 from editionlines.views import View, refuse_missing
 
-MOST_LINES = 6
-MOST_RELEASES = 60
-MOST_DAYS = 200
 # What a deed tries, as the word that is true of its lines behind it.
 TRIED_WORDS = {"try": "tried", "probe": "probed", "meet": "met"}
 
@@ -53,7 +51,7 @@ def live_lot(state):
 
 def is_fresh(state):
     """Whether the last release of a line is the live one."""
-    return state.live is not None and state.live == len(state.releases) - 1
+    return state.live == len(state.releases) - 1
 
 
 def line_is(word, state, fix):
@@ -216,8 +214,8 @@ class Ground(View):
             return self.with_things(self.main | Lot(deed.fix), self.lines, self.days, self.tried)
         if deed.KIND == "unfix":
             return self.with_things(self.main - Lot(deed.fix), self.lines, self.days, self.tried)
-        if self.line_count == MOST_LINES:
-            raise TooMany("lines", MOST_LINES)
+        if self.line_count == LINES:
+            raise TooMany("lines", LINES)
         return self.with_things(self.main, (*self.lines, LineState(self.main)), self.days, self.tried)
 
     def behind_try(self, deed):
@@ -242,8 +240,8 @@ class Ground(View):
     def behind_night(self, deed):
         """The Ground behind a deed that makes days."""
         made = [DayState(line, live_lot(self.lines[line - 1])) for line in done_numbers(deed)]
-        if len(made) + self.day_count > MOST_DAYS:
-            raise TooMany("days", MOST_DAYS)
+        if len(made) + self.day_count > DAYS:
+            raise TooMany("days", DAYS)
         return self.with_things(self.main, self.lines, (*self.days, *made), self.tried)
 
     def behind_lines(self, deed):
@@ -252,8 +250,8 @@ class Ground(View):
         lines = list(self.lines)
         for line in deed.named_lines():
             state = self.lines[line - 1]
-            if deed.KIND == "offer" and len(state.releases) == MOST_RELEASES:
-                raise TooMany("releases", MOST_RELEASES)
+            if deed.KIND == "offer" and len(state.releases) == RELEASES:
+                raise TooMany("releases", RELEASES)
             if line in done:
                 lines[line - 1] = line_behind(deed, state, self.main)
         return self.with_things(self.main, tuple(lines), self.days, self.tried)

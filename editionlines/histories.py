@@ -1,5 +1,6 @@
 """Histories: deeds each of which can be done behind those ahead of it."""
 
+from editionlines.bounds import DEEDS
 from editionlines.checks import is_within
 from editionlines.deeds import Deed, cut_many
 from editionlines.errors import BadDeed, BadHistory, BadText, NoRelease, TooMany, Undone
@@ -9,16 +10,14 @@ from editionlines.needs import Needs
 from editionlines.numbers import Number, Release
 from editionlines.words import Words, pieces
 
-MOST_DEEDS = 1000
-
 
 def refuse_deeds(deeds, start):
     """Raises what is wrong with a list or tuple of deeds that stand behind start others, as far as no ground tells."""
     for at, deed in enumerate(deeds):
         if not isinstance(deed, Deed):
             raise BadDeed(start + at)
-    if start + len(deeds) > MOST_DEEDS:
-        raise TooMany("deeds", MOST_DEEDS)
+    if start + len(deeds) > DEEDS:
+        raise TooMany("deeds", DEEDS)
 
 
 def grounds_behind(ground, deeds, start):
@@ -50,8 +49,6 @@ def read_lot(words):
         Lot.read(" ".join(words))
         raise BadText(0, len(words))
     many = words.index(":")
-    if many == 0:
-        raise BadText(0, 0)
     return (Lot.read(" ".join(words[:many])), many + 1)
 
 

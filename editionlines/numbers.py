@@ -1,27 +1,25 @@
 """The numbers of releases, and releases."""
 
+from editionlines.bounds import LINES, RELEASES
 from editionlines.checks import is_within
 from editionlines.errors import BadNumber
 from editionlines.papers import Paper, kept
 from editionlines.words import Words, number_of
 
-MOST_LINE = 6
-MOST_AT = 59
-
 
 def is_number_word(word):
     """Whether a word writes the number of a release."""
     line, _, at = word.partition(".")
-    return number_of(line, 1, MOST_LINE) is not None and number_of(at, 0, MOST_AT) is not None
+    return number_of(line, 1, LINES) is not None and number_of(at, 0, RELEASES - 1) is not None
 
 
 class Number:
     """The number of a release: that of its line, and how many releases of the line were ahead of it."""
 
     def __init__(self, line, at):
-        if not is_within(line, 1, MOST_LINE):
+        if not is_within(line, 1, LINES):
             raise BadNumber(line)
-        if not is_within(at, 0, MOST_AT):
+        if not is_within(at, 0, RELEASES - 1):
             raise BadNumber(at)
         self.line = line
         self.at = at
@@ -61,7 +59,7 @@ class Number:
         return (self.line, self.at) >= (other.line, other.at)
 
     def __add__(self, other):
-        if not is_within(other, 0, MOST_AT - self.at):
+        if not is_within(other, 0, RELEASES - 1 - self.at):
             raise BadNumber(other)
         return Number(self.line, self.at + other)
 

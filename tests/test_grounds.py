@@ -84,6 +84,7 @@ class ViewTest(EditionTest):
             if type(value) is not int or value not in (0, 1, 2):
                 self.refuses(NoLine(value), BUSY.place_tells, "no", value, "no")
                 self.refuses(NoLine(value), BUSY.two_tell, "no", value, value)
+                self.refuses(NoLine(value), BUSY.two_tell, "no", value, 3)
             if type(value) is not int or value not in (1, 2):
                 self.refuses(NoLine(value), BUSY.two_tell, "no", 3, value)
                 self.refuses(NoDay(value), BUSY.day_tells, "no", value, "no")
@@ -140,6 +141,7 @@ class AfterTest(EditionTest):
             ("f : cut, offer 1, live 1, day 1", "redo 1", "f : cut, offer 1, live 1, day 1"),
             ("f : cut, offer 1, live 1, day 1, down 1", "redo 1", None), ("f : cut, offer 1, live 1, day 1, shut 1", "redo 1", None),
             ("f : cut, offer 1, live 1, day 1, shut 1", "shut 1", None),
+            ("f : cut, offer 1, live 1, day 1, down 1", "shut 1", "f : cut, offer 1, live 1, day 1, shut 1, down 1"),
             ("f : cut, offer 1, live 1, day 1, day 1, shut 2", "renew 1 2 to 1", None),
             ("f : cut, offer 1, live 1, day 1, day 1, down 1", "renew 1 2 to 1", None),
         ]
