@@ -28,10 +28,8 @@ def read_clauses(words):
     """The list of the clauses that the words of a book tell."""
     clauses = []
     for first, row in pieces(words, 0, ";"):
-        if not row or len(clauses) == MOST_CLAUSES:
-            raise BadText(0, first)
-        # No clause of a lesser kind is greater, whatever follows this word.
-        if clauses and row[0] < clauses[-1].kind:
+        # No clause of a lesser kind is greater than the one ahead, whatever follows its first word.
+        if len(clauses) == MOST_CLAUSES or (clauses and row[0] < clauses[-1].kind):
             raise BadText(0, first)
         try:
             clause = Clause.read(" ".join(row))

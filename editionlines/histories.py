@@ -60,8 +60,6 @@ def read_deeds(words, start):
         raise BadText(0, start + 1)
     deeds = []
     for first, row in pieces(words, start, ","):
-        if not row:
-            raise BadText(0, first)
         try:
             deeds.append(Deed.read(" ".join(row)))
         except BadText as error:

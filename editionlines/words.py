@@ -26,7 +26,8 @@ def is_plain_number(word):
 def pieces(words, start, sign):
     """The rows of words that end with a word that ends with a sign, without it, and the row behind the last one.
 
-    The answer is a list of pairs: the index of the first word of a row, counted from start, and the row.
+    The answer is a list of pairs: the index of the first word of a row, counted from start, and the row. A last row
+    without words is told as one empty word, which can stand there as little as a missing one.
     """
     rows = []
     row = []
@@ -37,7 +38,7 @@ def pieces(words, start, sign):
             rows.append((first, row))
             row = []
             first = start + at + 1
-    rows.append((first, row))
+    rows.append((first, row or [""]))
     return rows
 
 

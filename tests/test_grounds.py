@@ -266,6 +266,8 @@ class OnlyTest(EditionTest):
                 self.refuses(NoDay(value), BUSY.only, Lot(), [], [value])
                 self.refuses(NoDay(value), BUSY.only, Lot(), [2], [1, value])
         self.refuses(BadLot("lot"), BUSY.only, Lot("f", "z"), 1, 1)
+        self.refuses(NoLine(0), BUSY.only, Lot(), [0], [])
+        self.refuses(NoDay(0), BUSY.only, Lot(), [1], [0])
         self.refuses(NoLine(1), BUSY.only, Lot(), [1, 1], [])
         self.refuses(NoLine(1), BUSY.only, Lot(), [2, 1], [])
         self.refuses(NoLine(4), BUSY.only, Lot(), [1, 4], [])
