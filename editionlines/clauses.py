@@ -165,10 +165,8 @@ class Clause:
         return iter(self.literals)
 
     def __or__(self, other):
-        if not isinstance(other, Literal):
-            raise BadClause("literal")
-        literals = self.literals
-        return Clause(self.kind, self.scope, *literals, other)
+        # Clause itself refuses what is no Literal.
+        return Clause(self.kind, self.scope, *self.literals, other)
 
     def __call__(self, view, deed, needs=None):
         """Whether the clause holds of a deed at a view."""

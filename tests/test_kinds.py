@@ -52,7 +52,7 @@ class KindTest(EditionTest):
         self.refuses_words(Kind.read, [
             ("", 0), ("kind", 1), ("kinds 1 1", 0), ("kind 1", 2), ("kind 3 1", 1), ("kind 1 3", 2), ("kind 1 0 1", 3),
             ("kind 1 1 2", 3), ("kind 1 2 0", 3), ("kind 1 2 1 2 1", 5), ("kind 1 2 ", 3), ("kind 01 2", 1), ("kind 1 2 1 3", 4),
-            ("kind -1 2", 1),
+            ("kind -1 2", 1), ("kind 1 -1", 2),
         ])
         for text in ("kind 0 0", "kind 1 2 1 2", "kind 2 1 1"):
             self.looks_at_spoilt(Kind.read, text, ["1", "2", "3", "kind"])
