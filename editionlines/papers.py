@@ -1,9 +1,16 @@
 """The bases of papers: objects that are equal if all that they keep is equal."""
 
 
+def is_open_to_change(value):
+    """Whether a value is a list or a dict, or a tuple with such in it."""
+    if isinstance(value, tuple):
+        return any([is_open_to_change(part) for part in value])
+    return isinstance(value, (list, dict))
+
+
 def kept(value):
     """The value; of lists and dicts in it copies, so that later changes do not reach what keeps it."""
-    if not isinstance(value, (list, tuple, dict)):
+    if not is_open_to_change(value):
         return value
     if isinstance(value, dict):
         return {key: kept(value[key]) for key in value}

@@ -165,6 +165,8 @@ class PapersTest(unittest.TestCase):
                     told = [value if k == at else k for k in range(len(names))]
                     paper = kind(*told)
                     self.assertTrue(same(getattr(paper, names[at]), value))
+                    if not isinstance(value, (list, dict)):
+                        self.assertIs(getattr(paper, names[at]), value)
                     self.assertIs(bool(paper), True)
                     self.assertEqual(paper, kind(**dict(zip(names, told))))
                     self.assertNotEqual(paper, kind(*["else" if k == at else k for k in range(len(names))]))
