@@ -282,8 +282,6 @@ class Ground(View):
 
     def two_are(self, word, line, other):
         """Whether a word of two lines that is no opposite is true of them."""
-        if line == 0:
-            return False
         pair = self.shown_pair(word, line, other)
         return pair is not None and is_among(self.tried, pair)
 

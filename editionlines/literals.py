@@ -55,6 +55,8 @@ class Literal:
         if self.who == "day":
             return view.day_tells(self.word, case.day, case.fix)
         if is_two_word(self.word):
+            if case.line == 0:
+                return view.main_beside(self.word, case.other)
             return view.two_tell(self.word, case.line, case.other)
         if self.who == "main":
             return view.place_tells(self.word, 0, case.fix)

@@ -52,8 +52,8 @@ class View:
         return self.place_is(plain, place, fix) == (plain == word)
 
     def two_tell(self, word, line, other):
-        """Whether a word of two lines is true of the own one, which may be main, and another one."""
-        if not is_within(line, 0, self.line_count):
+        """Whether a word of two lines is true of the own one and another one."""
+        if not is_within(line, 1, self.line_count):
             raise NoLine(line)
         if not is_within(other, 1, self.line_count) or other == line:
             raise NoLine(other)
@@ -61,6 +61,12 @@ class View:
             raise BadLiteral("word")
         plain = plain_word(word)
         return self.two_are(plain, line, other) == (plain == word)
+
+    def main_beside(self, word, other):
+        """Whether a word of two lines is true of main as own, which is no line, and of a line: so if it is an opposite."""
+        if not is_within(other, 1, self.line_count):
+            raise NoLine(other)
+        return word != plain_word(word)
 
     def day_tells(self, word, day, fix=None):
         """Whether a word of days is true of a day; about a fix, if it is a fix word."""

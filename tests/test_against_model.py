@@ -62,7 +62,7 @@ class AgainstModelTest(unittest.TestCase):
                 for day in range(1, view.day_count + 1):
                     for word in "keeps unkeeps shut unshut alike unalike".split():
                         self.assertEqual(view.day_tells(word, day, fix), model.says_day(word, day, fix))
-            for line in range(view.line_count + 1):
+            for line in range(1, view.line_count + 1):
                 for other in range(1, view.line_count + 1):
                     for word in "tried untried probed unprobed backed unbacked met unmet".split():
                         if line != other:

@@ -61,7 +61,7 @@ class ViewTest(EditionTest):
     def test_two_words(self):
         for word in TWO:
             plain = word.removeprefix("un")
-            for line, other in ((1, 2), (2, 1), (1, 3), (3, 2), (0, 1), (0, 2)):
+            for line, other in ((1, 2), (2, 1), (1, 3), (3, 2)):
                 # The last one of 1 and the live one of 2, which is its last one, too.
                 is_true = (line, other, plain) in ((1, 2, "probed"), (2, 1, "backed"), (1, 2, "tried"), (2, 1, "tried"))
                 self.assertIs(BUSY.two_tell(word, line, other), is_true == (word == plain), (word, line, other))
@@ -83,9 +83,9 @@ class ViewTest(EditionTest):
         for value in any_values():
             if type(value) is not int or value not in (0, 1, 2):
                 self.refuses(NoLine(value), BUSY.place_tells, "no", value, "no")
+            if type(value) is not int or value not in (1, 2):
                 self.refuses(NoLine(value), BUSY.two_tell, "no", value, value)
                 self.refuses(NoLine(value), BUSY.two_tell, "no", value, 3)
-            if type(value) is not int or value not in (1, 2):
                 self.refuses(NoLine(value), BUSY.two_tell, "no", 3, value)
                 self.refuses(NoDay(value), BUSY.day_tells, "no", value, "no")
             if value is not None and not (isinstance(value, str) and value in ("f", "g")):
@@ -99,6 +99,10 @@ class ViewTest(EditionTest):
         for line in range(4):
             self.refuses(NoLine(line), BUSY.two_tell, "tried", line, line)
         self.refuses(NoLine(4), BUSY.two_tell, "tried", 4, 4)
+        for word in TWO:
+            self.refuses(NoLine(0), BUSY.two_tell, word, 0, 1)
+            self.refuses(NoLine(0), BUSY.two_tell, word, 1, 0)
+            self.refuses(NoLine(0), BUSY.two_tell, word, 0, 0)
         self.refuses(NoLine(4), BUSY.place_tells, "up", 4)
         self.refuses(NoDay(3), BUSY.day_tells, "shut", 3)
         for words, call, told in ((TWO + DAY, BUSY.place_tells, (1, "f")), (PLACE + DAY, BUSY.two_tell, (1, 2)),

@@ -82,6 +82,13 @@ class LiteralTest(EditionTest):
                 self.assertIs(literal(BUSY, case), expected)
                 self.assertIs((~literal)(BUSY, case), not expected)
 
+    def test_main_beside_lines(self):
+        for word in TWO:
+            for other in (1, 2, 3):
+                self.assertIs(Literal("other", word)(BUSY, Case(0, None, other, None)), word.startswith("un"))
+            self.refuses(NoLine(4), Literal("other", word), BUSY, Case(0, None, 4, None))
+            self.refuses(NoLine(0), Literal("other", word), BUSY, Case(0, None, 0, None))
+
     def test_raises_what_the_view_raises(self):
         self.refuses(NoLine(4), Literal("own", "up"), BUSY, Case(4, None, None, None))
         self.refuses(NoFix(None), Literal("own", "has"), BUSY, Case(1, None, None, None))
