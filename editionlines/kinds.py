@@ -20,6 +20,25 @@ def closed(words):
     return tuple([word for word in FEATURES if word in found])
 
 
+def refuse_features(kind, features):
+    """Raises BadStanding for any value that is no closed features, in their order, of standings of a Kind."""
+    if closed(features) != features:
+        raise BadStanding("features")
+    # Of days it is told whether they are alike, so it must be told what their lines run.
+    if kind.days and "live" not in features:
+        raise BadStanding("features")
+
+
+def take_kind_numbers(words):
+    """The Kind that the next ones of some Words tell, which are its numbers."""
+    fixes = words.take_number(0, MOST)
+    lines = words.take_number(0, MOST)
+    days = []
+    while len(days) < MOST and words.is_next() and not words.is_next(";", ":"):
+        days.append(words.take_number(1, lines))
+    return Kind(fixes, lines, days)
+
+
 class Kind:
     """How many fixes, how many lines, and for each day the number of its line."""
 
@@ -36,22 +55,21 @@ class Kind:
         self.lines = lines
         self.days = tuple(days)
 
-    @classmethod
-    def read(cls, text):
+    @staticmethod
+    def read(text):
         """The kind with this text."""
         words = Words(text)
         words.take("kind")
-        fixes = words.take_number(0, MOST)
-        lines = words.take_number(0, MOST)
-        days = []
-        while words.is_next() and len(days) < MOST:
-            days.append(words.take_number(1, lines))
+        kind = take_kind_numbers(words)
         words.end()
-        return cls(fixes, lines, days)
+        return kind
 
     def __str__(self):
-        told = [str(number) for number in (self.fixes, self.lines, *self.days)]
-        return " ".join(["kind", *told])
+        return " ".join(["kind", *self.number_words()])
+
+    def number_words(self):
+        """The list of the numbers of the text, as words."""
+        return [str(number) for number in (self.fixes, self.lines, *self.days)]
 
     def __eq__(self, other):
         if not isinstance(other, Kind) or self.fixes != other.fixes:

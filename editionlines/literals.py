@@ -58,11 +58,16 @@ class Literal:
             if case.line == 0:
                 return view.main_beside(self.word, case.other)
             return view.two_tell(self.word, case.line, case.other)
+        place, fix = self.place_in(case)
+        return view.place_tells(self.word, place, fix)
+
+    def place_in(self, case):
+        """The number of the place of which the literal speaks in a Case, and the fix about which it does."""
         if self.who == "main":
-            return view.place_tells(self.word, 0, case.fix)
+            return (0, case.fix)
         if self.who == "own":
-            return view.place_tells(self.word, case.line, case.fix)
+            return (case.line, case.fix)
         # In the scopes need and user other is own, about the other fix.
         if isinstance(case.other, str):
-            return view.place_tells(self.word, case.line, case.other)
-        return view.place_tells(self.word, case.other, case.fix)
+            return (case.line, case.other)
+        return (case.other, case.fix)

@@ -21,6 +21,10 @@ def kept(value):
 class Paper:
     """The base of all papers. Each class below tells in held what its objects keep."""
 
+    def __repr__(self):
+        told = [repr(part) for part in self.held()]
+        return f"{self.__class__.__name__}({', '.join(told)})"
+
     def __eq__(self, other):
         return type(self) is type(other) and self.held() == other.held()
 

@@ -49,6 +49,7 @@ class View:
         if not is_place_word(word):
             raise BadLiteral("word")
         plain = self.plain_about(word, fix)
+        self.refuse_untold(word)
         return self.place_is(plain, place, fix) == (plain == word)
 
     def two_tell(self, word, line, other):
@@ -60,10 +61,11 @@ class View:
         if not is_two_word(word):
             raise BadLiteral("word")
         plain = plain_word(word)
+        self.refuse_untold(word)
         return self.two_are(plain, line, other) == (plain == word)
 
     def main_beside(self, word, other):
-        """Whether a word of two lines is true of main as own, which is no line, and of a line: so if it is an opposite."""
+        """Whether a word of two lines is true of main as own, which is no line, beside a line: if it is an opposite."""
         if not is_within(other, 1, self.line_count):
             raise NoLine(other)
         return word != plain_word(word)
@@ -76,7 +78,11 @@ class View:
         if not is_day_word(word):
             raise BadLiteral("word")
         plain = self.plain_about(word, fix)
+        self.refuse_untold(word)
         return self.day_is(plain, day, fix) == (plain == word)
+
+    def refuse_untold(self, word):
+        """Raises BadLiteral for a word that the view does not tell; a Ground tells them all."""
 
     def refuse_fix(self, fix):
         """Raises NoFix for any value that is neither None nor a fix of the view."""

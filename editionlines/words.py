@@ -108,6 +108,10 @@ class Words:
         """Raises that the next word cannot stand, or that one is missing."""
         raise BadText(self.line, self.taken)
 
+    def refuse_at(self, spot):
+        """Raises that a word that was taken cannot stand."""
+        raise BadText(self.line, spot)
+
     def end(self):
         """Raises that the next word cannot stand, if one is left."""
         if self.is_next():

@@ -24,7 +24,7 @@ TWO_SIDED = "__eq__ __lt__ __le__ __gt__ __ge__ __add__ __sub__ __mul__ __rmul__
 NOWHERE = "register mro elements open input law version_info with_traceback add_note".split()
 NO_WORDS = """typing typing_extensions enum Enum IntEnum StrEnum Flag IntFlag Generic Protocol ABC ABCMeta namedtuple
 NamedTuple TypedDict TYPE_CHECKING abstractmethod""".split()
-NODES = (ast.GeneratorExp, ast.AsyncFunctionDef, ast.Global, ast.Nonlocal, ast.AnnAssign, ast.Div, ast.Match, ast.With,
+NODES = (ast.GeneratorExp, ast.AsyncFunctionDef, ast.Global, ast.Nonlocal, ast.AnnAssign, ast.Div, ast.Match,
          ast.NamedExpr, ast.SetComp, ast.Set, ast.Import, ast.Delete, ast.Await)
 
 
@@ -74,6 +74,10 @@ def attributes_of(name):
     return {target.attr for target in ast.walk(CLASSES[name])
             if isinstance(target, ast.Attribute) and isinstance(target.ctx, ast.Store)
             and isinstance(target.value, ast.Name) and target.value.id == "self"}
+
+
+def is_setter(node):
+    return [ast.unparse(part) for part in node.decorator_list] == [f"{node.name}.setter"]
 
 
 def is_generator(node):
@@ -189,7 +193,8 @@ class NamesTest(unittest.TestCase):
         methods = {node.name for _, node in nodes(ast.FunctionDef)}
         values = {node.targets[0].id for tree in CLASSES.values() for node in tree.body if isinstance(node, ast.Assign)}
         for name, node in nodes(ast.Attribute):
-            self.assertIn(node.attr, kept | methods | values | set(METHODS), (name, node.lineno))
+            if node.attr not in ("__class__", "__name__", "setter"):
+                self.assertIn(node.attr, kept | methods | values | set(METHODS), (name, node.lineno))
 
     def test_no_name_is_a_method_and_an_attribute(self):
         every = {part.name for name in CLASSES for part in methods_of(name)}
@@ -199,15 +204,65 @@ class NamesTest(unittest.TestCase):
             attributes = {word for one in above for word in attributes_of(one)}
             self.assertFalse(methods & attributes, name)
             self.assertFalse(every & attributes_of(name), name)
-            own = [part.name for part in methods_of(name)]
+            own = [part.name for part in methods_of(name) if not is_setter(part)]
             self.assertEqual(len(own), len(set(own)))
 
     def test_names_of_generators(self):
         named = [node.name for _, node in nodes(ast.FunctionDef)]
+        stored = {word for name in CLASSES for word in attributes_of(name)}
         for name, node in nodes(ast.FunctionDef):
             if is_generator(node):
                 self.assertEqual(named.count(node.name), 1, (name, node.name))
                 self.assertEqual(node.decorator_list, [])
+                self.assertNotIn(node.name, stored)
+                self.assertNotIn(node.name, METHODS)
+
+    def test_generators_are_iterated_at_once(self):
+        names = {node.name for _, node in nodes(ast.FunctionDef) if is_generator(node)}
+        for name, tree in TREES.items():
+            good = set()
+            for node in ast.walk(tree):
+                if isinstance(node, (ast.For, ast.comprehension)):
+                    good.add(id(node.iter))
+                if isinstance(node, ast.YieldFrom):
+                    good.add(id(node.value))
+                if isinstance(node, ast.Call) and getattr(node.func, "id", "") in ("list", "tuple"):
+                    good |= {id(part) for part in node.args}
+            for node in ast.walk(tree):
+                if isinstance(node, ast.Call):
+                    called = getattr(node.func, "id", getattr(node.func, "attr", ""))
+                    if called in names:
+                        self.assertIn(id(node), good, (name, node.lineno))
+                        for part in node.args:
+                            self.assertIn(type(part), (ast.Name, ast.Attribute, ast.Constant), (name, node.lineno))
+
+    def test_no_yield_in_blocks(self):
+        for name, node in nodes((ast.With, ast.Try)):
+            self.assertFalse(is_generator(node), (name, node.lineno))
+
+    def test_ranges_are_iterated_at_once(self):
+        lazy = ("range", "zip", "enumerate", "reversed", "items", "keys", "values")
+        for name, tree in TREES.items():
+            good = set()
+            for node in ast.walk(tree):
+                if isinstance(node, (ast.For, ast.comprehension)):
+                    good.add(id(node.iter))
+                if isinstance(node, ast.Assign) and isinstance(node.targets[0], ast.Name):
+                    good.add(id(node.value))
+                if isinstance(node, ast.Call) and getattr(node.func, "id", "") in (
+                        "list", "tuple", "dict", "sorted", "sum", "enumerate", "zip"):
+                    good |= {id(part) for part in node.args}
+                if isinstance(node, ast.Compare):
+                    good |= {id(part) for part in node.comparators}
+            for node in ast.walk(tree):
+                if isinstance(node, ast.Call) and getattr(node.func, "id", getattr(node.func, "attr", "")) in lazy:
+                    self.assertIn(id(node), good, (name, node.lineno))
+
+    def test_blocks(self):
+        for name, node in nodes(ast.With):
+            for part in node.items:
+                self.assertIsInstance(part.context_expr, ast.Call)
+                self.assertIsInstance(part.optional_vars, ast.Name)
 
 
 class FormsTest(unittest.TestCase):
@@ -233,17 +288,23 @@ class FormsTest(unittest.TestCase):
                 told = node.args[0]
                 self.assertIsInstance(told, ast.ListComp, (name, node.lineno))
                 self.assertEqual(ast.unparse(told.elt.func), "str")
+                self.assertEqual(node.keywords, [])
             if isinstance(node.func, ast.Name) and node.func.id in ("min", "max"):
                 for part in node.args:
                     self.assertEqual(ast.unparse(part.func), "len", (name, node.lineno))
             if isinstance(node.func, ast.Name) and node.func.id in ("any", "all", "sum"):
-                self.assertIsInstance(node.args[0], ast.ListComp, (name, node.lineno))
+                self.assertIsInstance(node.args[0], (ast.ListComp, ast.Name), (name, node.lineno))
 
     def test_stars(self):
         for name, node in nodes(ast.Call):
-            for part in node.args:
-                if isinstance(part, ast.Starred):
-                    self.assertIn(type(part.value), (ast.Name, ast.Attribute), (name, node.lineno))
+            stars = [part for part in node.args if isinstance(part, ast.Starred)]
+            self.assertLessEqual(len(stars), 1, (name, node.lineno))
+            for part in stars:
+                self.assertIn(type(part.value), (ast.Name, ast.Attribute), (name, node.lineno))
+                for other in node.args:
+                    self.assertIn(type(other), (ast.Name, ast.Attribute, ast.Constant, ast.Starred), (name, node.lineno))
+            for part in node.keywords:
+                self.assertIsNotNone(part.arg, (name, node.lineno))
 
     def test_errors(self):
         own = [node.name for node in TREES["errors.py"].body if isinstance(node, ast.ClassDef)]
@@ -256,7 +317,8 @@ class FormsTest(unittest.TestCase):
     def test_decorators(self):
         for name, node in nodes((ast.FunctionDef, ast.ClassDef)):
             for part in node.decorator_list:
-                self.assertIn(ast.unparse(part), ("property", "staticmethod", "classmethod"), (name, node.name))
+                if not is_setter(node):
+                    self.assertIn(ast.unparse(part), ("property", "staticmethod", "classmethod"), (name, node.name))
 
     def test_double_underscores(self):
         for name, node in nodes(ast.FunctionDef):
@@ -283,7 +345,7 @@ class FormsTest(unittest.TestCase):
             self.assertTrue("__getitem__" not in told or "__iter__" in told, name)
             for part in methods_of(name):
                 if part.name == "__iter__":
-                    self.assertRegex(ast.unparse(part.body[-1]), r"^return iter\(self\.\w+\)$")
+                    self.assertRegex(ast.unparse(part.body[-1]), r"^return iter\(self\.\w+(\.\w+)?\)$")
 
     def test_no_class_is_passed_on(self):
         for name, tree in TREES.items():
