@@ -8,6 +8,21 @@ FUNCTIONS = {
     "checks": {"is_integer": "value", "is_fix": "value", "is_within": "value, least, most"},
     "words": {"number_of": "word, least, most"},
     "kinds": {"closed": "words"},
+    "cutting": {"rest_of": "deed", "stops_of": "deed, lot", "few_things": "history, fixes, lines, days"},
+    "tables": {"features_of": "book, wish", "needs_of": "standing", "lot_of": "kind", "let_deeds": "book, standing",
+               "walked": "book, kind, features", "reached": "book, wish", "depths": "book, wish", "shortest": "book, wish"},
+    "judging": {"judged": "book, wish", "verdicts": "book, *wishes"},
+    "look_judging": {"shows_judged": "book, wish, value"},
+    "compared": {"follows": "book, clause", "within": "one, other", "alike": "one, other", "needless": "book",
+                 "lean": "book"},
+    "look_compared": {"shows_follows": "book, clause, value", "shows_within": "one, other, value"},
+    "shelves": {"least_choices": "shelf, wishes, ground=None, musts=()"},
+    "look_shelves": {"shows_choices": "shelf, wishes, value, ground=None, musts=()"},
+    "notes": {"note_of": "release, other"},
+    "ways": {"ways": "history, rule", "losses": "history, rule", "running": "history", "next_losses": "history",
+             "bared": "history"},
+    "climbs": {"climb": "history, start, goal, lot, stride, live=False", "stuck": "history, lot, stride",
+               "shows_climb": "history, start, goal, lot, stride, value, live=False"},
 }
 # Of each class the parameters of the class, and its methods with their parameters; double underscores are left out.
 CLASSES = {
@@ -58,6 +73,32 @@ CLASSES = {
         "release": "number", "were_tried": "one, other", "only": "lot, lines, days", "eq": "other", "str": "",
         "read": "text, needs=None"})},
     "kinds": {"Kind": ("fixes, lines, days=()", {"le": "other", "eq": "other", "str": "", "read": "text"})},
+    "projects": {"Project": ("lot, needs=None, book=None", {
+        "history_now": None, "ground_now": None, "undone": None, "counts": None, "do": "deed", "call": "deed",
+        "do_all": "*deeds", "finish": "", "undo": "", "again": "", "book": None, "set_book": "book", "len": "", "iter": "",
+        "getitem": "at", "contains": "x", "let": "deed", "choices": "", "only": "lot, lines, days", "trial": "",
+        "attempt": "work, kept=False", "twin": "", "eq": "other"})},
+    "stands": {"LineStand": ("has, is_open, past, last, live, fresh", {}), "DayStand": ("keeps, is_shut", {})},
+    "standings": {"Standing": (None, {
+        "starts": "kind, features=('open', 'past', 'last', 'live', 'tries')", "after": "deed", "call": "deed",
+        "askable": "kind=None", "steps": "", "key": None, "eq": "other", "narrowed": "kind, features", "str": "",
+        "read": "text", "of": "ground, fixes, lines, days, features=('open', 'past', 'last', 'live', 'tries')"})},
+    "wishes": {
+        "Fact": ("subject, word, thing=None", {"invert": "", "eq": "other", "str": "", "read": "text"}),
+        "Wish": ("kind, *facts", {
+            "contains": "x", "len": "", "iter": "", "with_fact": "fact", "le": "other", "eq": "other",
+            "breaks": "view, needs=None", "call": "view, needs=None", "str": "", "read": "text", "for_users": "",
+            "for_testers": "", "for_clerks": "", "for_needs": "", "for_all": ""})},
+    "judging": {
+        "Broken": ("history, things", {}), "Holds": ("table", {}),
+        "Judge": ("*wishes", {"call": "book", "len": "", "iter": "", "contains": "x", "or": "other", "asked": None,
+                              "eq": "other"})},
+    "compared": {"Follows": ("table", {}), "Within": ("tables", {}), "Parting": ("history", {})},
+    "shelves": {
+        "Shelf": ("*clauses", {"len": "", "iter": "", "book_of": "*places", "refusers": "history"}),
+        "Choices": ("least, holds, rows", {}), "NoChoice": ("row", {})},
+    "notes": {"Note": ("gained, lost", {"add": "other", "neg": "", "bool": "", "eq": "other", "str": "", "read": "text"})},
+    "climbs": {"Climb": ("numbers", {}), "NoClimb": ("numbers", {})},
 }
 
 

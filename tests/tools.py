@@ -1,20 +1,32 @@
 """What the tests share: any values, errors with their fields, spoilt texts, random histories."""
 
+import itertools
 import random
 import unittest
 
 from editionlines.books import Book
 from editionlines.clauses import Case, Clause
+from editionlines.climbs import Climb, NoClimb
+from editionlines.compared import Follows, Parting, Within
 from editionlines.deeds import Cut, Deed, Fix, Night
 from editionlines.errors import BadFix, BadText, EditionError
 from editionlines.grounds import Ground, LineState
 from editionlines.histories import History
-from editionlines.kinds import Kind
+from editionlines.judging import Broken, Holds, Judge
+from editionlines.kinds import FEATURES, Kind, closed
 from editionlines.literals import Literal
 from editionlines.lots import Lot
 from editionlines.needs import Needs
+from editionlines.notes import Note
 from editionlines.numbers import Number, Release
+from editionlines.projects import Project
+from editionlines.shelves import Choices, NoChoice, Shelf
+from editionlines.standings import Standing
+from editionlines.stands import LineStand
+from editionlines.wishes import DAY_LETTERS, LINE_LETTERS, Fact, Wish
 from editionlines.words import Words
+
+ALL_FEATURES = [words for many in range(6) for words in itertools.combinations(FEATURES, many) if closed(words) == words]
 
 
 def any_values():
@@ -26,6 +38,9 @@ def any_values():
         Release(Number(1, 0), Lot()), Needs(), Needs({"f": ["g"]}), Fix("f"), Cut(), Night(1, 2), Literal("own", "open"),
         Clause("cut", "once"), Book(), Book(Clause("cut", "once")), History(Lot()), Ground(Lot("f")), LineState(Lot()),
         Case(1, None, None, None), Kind(0, 0), Words("x y"), BadFix(1), Lot, [[["f"], {"a": (1, 2)}]],
+        Standing.starts(Kind(1, 0))[0], LineStand((), True, (), None, None, False), Fact("A", "up"), Wish(Kind(0, 0)),
+        Project(Lot("f")), Holds(()), Broken(None, {}), Judge(), Follows(()), Within(()), Parting(None), Shelf(),
+        Choices((), (), ()), NoChoice(None), Note(Lot(), Lot()), Climb(()), NoClimb(()), Release(None, None),
     ]
 
 
@@ -195,6 +210,45 @@ def random_clause(rng, kind=None):
         scopes.remove("day")
     scope = rng.choice(scopes)
     return Clause(kind, scope, *[random_literal(rng, kind, scope) for _ in range(rng.randint(0, 4))])
+
+
+def random_book(rng, many=3, kinds=None):
+    """A book of at most so many clauses, of any kinds of deeds or of some of these."""
+    return Book(*[random_clause(rng, rng.choice(kinds) if kinds else None) for _ in range(rng.randint(0, many))])
+
+
+def random_kind(rng):
+    """A kind of standings."""
+    lines = rng.randint(0, 2)
+    return Kind(rng.randint(0, 2), lines, [rng.randint(1, lines) for _ in range(rng.randint(0, 2))] if lines else ())
+
+
+def random_fact(rng, kind):
+    """A fact of a kind."""
+    letters = ["main", *LINE_LETTERS[:kind.lines], *DAY_LETTERS[:len(kind.days)]]
+    place = "has lacks open ended shipped unshipped missed unmissed gives ungives omits unomits up unup runs unruns bares " \
+            "unbares fresh unfresh".split()
+    while True:
+        subject = rng.choice(letters)
+        texts = [f"{subject} {word}" for word in "keeps unkeeps shut unshut alike unalike".split()]
+        if subject not in DAY_LETTERS:
+            texts = [f"{subject} {word}" for word in place]
+        if subject in LINE_LETTERS and kind.lines == 2:
+            other = "B" if subject == "A" else "A"
+            texts += [f"{subject} {word} {other}" for word in "tried unprobed backed unmet".split()]
+        text = rng.choice(texts)
+        for told in (text, f"{text} {rng.choice('FG'[:kind.fixes] or 'F')}"):
+            try:
+                fact = Fact.read(told)
+            except BadText:
+                continue
+            if fact.thing is None or fact.thing in "AB" or (fact.thing in "FG"[:kind.fixes]):
+                return fact
+
+
+def random_wish(rng, kind, many=3):
+    """A wish of a kind with at most so many facts."""
+    return Wish(kind, *[random_fact(rng, kind) for _ in range(rng.randint(0, many))])
 
 
 def randoms(name, many):
