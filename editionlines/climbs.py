@@ -53,7 +53,7 @@ def told_place(number):
     return (number.line, number.at)
 
 
-class Steps:
+class Strides:
     """The steps of climbs in a history, between releases that are told as pairs (line, number)."""
 
     def __init__(self, history, lot, stride, live):
@@ -90,7 +90,7 @@ class Steps:
 def climb(history, start, goal, lot, stride, live=False):
     """The Climb of the fewest steps from one release to another one, otherwise the NoClimb."""
     refuse_climb(history, start, goal, lot, stride, live)
-    ahead = Steps(history, lot, stride, live).ahead_of(told_place(start))
+    ahead = Strides(history, lot, stride, live).ahead_of(told_place(start))
     if told_place(goal) not in ahead:
         return NoClimb(tuple([Number(*place) for place in ahead]))
     row = []
@@ -106,8 +106,8 @@ def stuck(history, lot, stride):
     refuse_history(history)
     refuse_way(lot, stride)
     live = live_places(history.ground)
-    steps = Steps(history, lot, stride, True)
-    return tuple([Number(*place) for place in live if live[-1] not in steps.ahead_of(place)])
+    strides = Strides(history, lot, stride, True)
+    return tuple([Number(*place) for place in live if live[-1] not in strides.ahead_of(place)])
 
 
 def are_numbers(history, value):
@@ -124,11 +124,11 @@ def shows_climb(history, start, goal, lot, stride, value, live=False):
     if not isinstance(value, (Climb, NoClimb)) or not are_numbers(history, value.numbers):
         return False
     places = [told_place(number) for number in value.numbers]
-    steps = Steps(history, lot, stride, live)
+    strides = Strides(history, lot, stride, live)
     if isinstance(value, Climb):
         if not places or places[0] != told_place(start) or places[-1] != told_place(goal):
             return False
-        return all([steps.is_step(one, other) for one, other in zip(places, places[1:])])
+        return all([strides.is_step(one, other) for one, other in zip(places, places[1:])])
     if told_place(start) not in places or told_place(goal) in places:
         return False
-    return all([later in places for place in places for later in steps.steps_from(place)])
+    return all([later in places for place in places for later in strides.steps_from(place)])

@@ -12,6 +12,11 @@ NO_TRIES = (False, False, False, False)
 # How the releases about a fix stand behind one more that has it, that lacks it.
 PAST_WITH = {"none": "all", "all": "all", "no": "won", "won": "won", "lost": "won"}
 PAST_WITHOUT = {"none": "no", "all": "lost", "no": "no", "won": "lost", "lost": "lost"}
+# Where a line tells whether it is open, its last and its live release, and whether these are one.
+OPEN = 1
+LAST = 3
+LIVE = 4
+FRESH = 5
 # Whether the live release of the first line, and that of the second one, is meant by each of the four bools of two.
 CELLS = ((False, False), (False, True), (True, False), (True, True))
 # The ascending tuples of numbers up to none, one and two.
@@ -106,17 +111,17 @@ def is_line_ready(move, line):
     """Whether a deed on lines, but of two, can be done on a line that it names."""
     word = move.word
     if word in FIX_LINE_KINDS:
-        return line[1] and line[0][move.spots[0]] == (word == "drop")
+        return line[OPEN] and line[0][move.spots[0]] == (word == "drop")
     if word in ("merge", "end", "offer"):
-        return line[1]
+        return line[OPEN]
     if word in ("live", "rise"):
-        return line[3] is not None and not line[5]
-    return line[4] is not None
+        return line[LAST] is not None and not line[FRESH]
+    return line[LIVE] is not None
 
 
 def is_day_ready(word, day, line):
     """Whether a deed on days can be done on a day of a line."""
-    return not day[1] and (word == "shut" or line[4] is not None)
+    return not day[1] and (word == "shut" or line[LIVE] is not None)
 
 
 def cell_of(move):
@@ -128,7 +133,7 @@ def cell_of(move):
 
 def are_there(lines, cell):
     """Whether the releases of two lines that a cell means are there: the live one, or the last one, of each."""
-    return all([line[4 if is_live else 3] is not None for line, is_live in zip(lines, cell)])
+    return all([line[LIVE if is_live else LAST] is not None for line, is_live in zip(lines, cell)])
 
 
 def behind(state, move, rules):
@@ -193,7 +198,7 @@ def two_tried(two, cell, lines):
     """Which releases of two lines were tried, behind a deed that tries those that a cell means."""
     # Where the last release of a line is its live one, both cells mean it.
     return tuple([
-        old or all([line[5] or one == other for line, one, other in zip(lines, told, cell)])
+        old or all([line[FRESH] or one == other for line, one, other in zip(lines, told, cell)])
         for old, told in zip(two, CELLS)
     ])
 
@@ -204,11 +209,11 @@ def days_behind(days, move, lines, rules):
         if move.word in ("day", "night"):
             # A day that is not the next one of its line is not kept.
             if rules.homes[len(days):len(days) + 1] == (at,):
-                days = (*days, (lines[at][4], False))
+                days = (*days, (lines[at][LIVE], False))
         elif move.word == "shut":
             days = with_at(days, at, (days[at][0], True))
         else:
-            days = with_at(days, at, (lines[rules.homes[at]][4], False))
+            days = with_at(days, at, (lines[rules.homes[at]][LIVE], False))
     return days
 
 

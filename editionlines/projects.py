@@ -54,7 +54,6 @@ class Trial:
         self.taken = ()
 
     def __enter__(self):
-        self.is_kept = False
         self.went = self.project.went
         self.rules = self.project.rules
         self.taken = self.project.taken

@@ -1,7 +1,7 @@
 """The texts of standings: states [moves.py] written as words, and read from them."""
 
 from editionlines.kinds import FEATURES, closed, take_kind_numbers
-from editionlines.moves import CELLS, NO_TRIES
+from editionlines.moves import CELLS, NO_TRIES, are_there
 
 PASTS = ("none", "all", "no", "won", "lost")
 
@@ -112,8 +112,7 @@ def take_two(words, features, lines):
     """The four bools of two lines that the next ones of some Words tell, behind their first word."""
     found = []
     for cell in CELLS:
-        are_there = [line[4 if is_live else 3] is not None for line, is_live in zip(lines, cell)]
-        answers = ("yes", "no") if "tries" in features and all(are_there) else ("no",)
+        answers = ("yes", "no") if "tries" in features and are_there(lines, cell) else ("no",)
         found.append(words.take(*answers) == "yes")
     return tuple(found)
 

@@ -14,6 +14,7 @@ from editionlines.lots import Lot
 from editionlines.needs import Needs
 from editionlines.numbers import Number, Release
 from editionlines.projects import Project
+from editionlines.wishes import Wish
 from tools import EditionTest, any_values, random_book, random_deed, random_history, randoms
 
 NEEDS = Needs({"f": ["g"]})
@@ -371,6 +372,26 @@ class ChoicesTest(EditionTest):
         project.do(Offer(1))
         project.set_book(None)
         self.assertIn("live 1", [str(deed) for deed in late])
+
+
+class WishesTest(EditionTest):
+    def test_named_wishes_are_kept(self):
+        """Whatever a project does under a named book, the wish of this name is kept; without the book it is broken once."""
+        broken = 0
+        for name in ("users", "testers", "needs", "clerks"):
+            for rng in randoms(name, 6):
+                wish = getattr(Wish, "for_" + name)()
+                project = Project(Lot("f", "g"), NEEDS, getattr(Book, "for_" + name)())
+                free = Project(Lot("f", "g"), NEEDS)
+                for _ in range(60):
+                    for each in (project, free):
+                        told = [deed for deed in each.choices() if deed.KIND != "cut" or each.ground_now.line_count < 3]
+                        plain = rng.choice(told)
+                        many = random_deed(rng, "fg", 3, 4)
+                        each.do(many if each.let(many) and many.KIND not in ("end", "cut") else plain)
+                    self.assertTrue(wish(project.ground_now, project.needs), str(project.history_now))
+                    broken += not wish(free.ground_now, free.needs)
+        self.assertGreater(broken, 50)
 
 
 class TrialTest(EditionTest):
