@@ -66,17 +66,17 @@ def walked(book, kind, features):
         level.append((standing, ()))
         yield standing, ()
     while level:
-        ahead = level
-        level = []
-        for standing, deeds in ahead:
+        later = []
+        for standing, deeds in level:
             for deed, state in states_behind(gate, book, standing):
                 if state not in met:
                     if len(met) == MOST_STANDINGS:
                         raise TooMany("standings", MOST_STANDINGS)
                     met[state] = True
                     pair = (Standing(kind, features, state), (*deeds, deed))
-                    level.append(pair)
+                    later.append(pair)
                     yield pair
+        level = later
 
 
 def reached(book, wish):
