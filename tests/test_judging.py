@@ -1,7 +1,9 @@
 """Judging, and looking at what is told."""
 
 import unittest
+from unittest import mock
 
+from editionlines import look_judging, tables
 from editionlines.books import Book
 from editionlines.clauses import Clause
 from editionlines.compared import Follows
@@ -293,18 +295,14 @@ class ShowsHoldsTest(EditionTest):
         self.assertTrue(shows_judged(Book.for_users() & Book.read("cut once: main lacks"), Wish.for_users(), held))
 
     def test_too_large_tables(self):
-        book, wish = Book(), Wish(Kind(1, 2, (1, 2)), Fact("main", "ended"))
-        features = features_of(book, wish)
-        many = []
-        try:
-            for standing, _ in walked(book, wish.kind, FEATURES):
-                many.append(standing)
-        except TooMany:
-            pass
-        self.assertFalse(shows_judged(book, wish, Holds(tuple(many))))
-        self.assertNotEqual(features, FEATURES)
-        # A right table of more than 20,000 standings does not count.
-        self.assertEqual(len(many), 20000)
+        """A right table of more than 20,000 standings does not count."""
+        book, wish = Book.read("end once: own shipped"), Wish.read("never 1 2 1 : A runs F , main ended")
+        with mock.patch.object(tables, "MOST_STANDINGS", 30000):
+            found = judged(book, wish)
+        self.assertTrue(20000 < len(found.table) < 30000)
+        self.assertIs(shows_judged(book, wish, found), False)
+        with mock.patch.object(look_judging, "MOST_STANDINGS", 30000):
+            self.assertIs(shows_judged(book, wish, found), True)
 
     def test_any_values(self):
         for value in any_values():

@@ -93,6 +93,7 @@ class ShelfTest(EditionTest):
                 self.refuses(BadBook("clause"), Shelf, DROP, DROP, value)
             if type(value) is not History:
                 self.refuses(BadHistory("history"), SHELF.refusers, value)
+                self.refuses(BadHistory("history"), Shelf().refusers, value)
             if not (type(value) is int and 0 <= value <= 2):
                 self.refuses(BadNumber(value), SHELF.book_of, value)
                 self.refuses(BadNumber(value), SHELF.book_of, 0, 2, value, "no")

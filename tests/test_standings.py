@@ -334,6 +334,39 @@ class ViewTest(EditionTest):
             yield "two_tell", (word, 1, 2), (word, 1, 2)
             yield "two_tell", (word, 2, 1), (word, 2, 1)
 
+    def test_two_lines_and_two_days(self):
+        text = "kind 1 2 1 2 ; tells open past last live tries ; straight ; main has ; " \
+               "line has open all last has live has stale ; line lacks open all last has live has stale ; two"
+        cells = {("tried", 1, 2): 0, ("tried", 2, 1): 0, ("probed", 1, 2): 1, ("probed", 2, 1): 2, ("backed", 1, 2): 2,
+                 ("backed", 2, 1): 1, ("met", 1, 2): 3, ("met", 2, 1): 3}
+        for two in itertools.product((False, True), repeat=4):
+            words = " ".join("yes" if told else "no" for told in two)
+            standing = Standing.read(f"{text} {words} ; day has shut ; day lacks open")
+            self.assertEqual(standing.two, two)
+            for (word, line, other), at in cells.items():
+                self.assertIs(standing.two_tell(word, line, other), two[at])
+                self.assertIs(standing.two_tell("un" + word, line, other), not two[at])
+            self.assertEqual([standing.day_tells("keeps", day, "f") for day in (1, 2)], [True, False])
+            self.assertEqual([standing.day_tells("shut", day) for day in (1, 2)], [True, False])
+            self.assertEqual([standing.day_tells("alike", day, "f") for day in (1, 2)], [True, False])
+        of_ground = History.read("f : cut, cut, offer 1, offer 2, live 1, live 2, meet 1 2, offer 1, probe 1 2, offer 2").ground
+        self.assertEqual(Standing.of(of_ground, (), (1, 2), ()).two, (False, True, False, True))
+        other = History.read("f : cut, cut, offer 1, offer 2, live 1, offer 1, try 1 2, live 2, offer 2, probe 2 1").ground
+        self.assertEqual(Standing.of(other, (), (1, 2), ()).two, (False, True, True, False))
+
+    def test_tries_move_on(self):
+        standing = after(start(Kind(0, 2)), "cut, cut, offer 1, offer 2")
+        rows = [
+            ("try 1 2", "yes no no no"), ("live 1", "yes no yes no"), ("live 2", "yes yes yes yes"), ("offer 1", "no no yes yes"),
+            ("probe 1 2", "yes yes yes yes"), ("offer 2", "no yes no yes"), ("down 2", "no no no no"), ("probe 2 1", "no no yes no"),
+            ("live 1", "no no no no"), ("probe 2 1", "yes no yes no"), ("rise 2", "yes yes yes yes"), ("offer 1", "no no yes yes"),
+            ("offer 2", "no no no yes"), ("try 1 2", "yes no no yes"), ("rise 1 2 to 1", "yes no yes no"),
+            ("rise 2", "yes yes yes yes"), ("down 1", "yes yes no no"), ("down 2", "yes no no no"), ("rise 1 2", "yes yes yes yes"),
+        ]
+        for text, words in rows:
+            standing = after(standing, text)
+            self.assertEqual(standing.two, tuple(word == "yes" for word in words.split()), text)
+
     def test_errors(self):
         standing = after(start(Kind(1, 2, (1,)), ("last", "live")), "cut, cut, offer 1, live 1, day 1")
         for value in any_values():
@@ -518,6 +551,13 @@ class OfTest(EditionTest):
                 self.refuses(NoLine(value), Standing.of, ground, (), (1, value), (9,), None)
             if value not in ALL_FEATURES:
                 self.refuses(BadStanding("features"), Standing.of, ground, (), (1, 2), (1, 2), value)
+        self.refuses(NoFix("h"), Standing.of, ground, ("f", "g", "h"), (9,), (9,), "no")
+        self.refuses(NoLine(3), Standing.of, ground, ("f",), (1, 2, 3), (9,), "no")
+        more = ground(Night(1, 2, 3))
+        self.refuses(NoDay(4), Standing.of, more, ("f",), (1, 2), (1, 2, 4), "no")
+        self.refuses(NoFix("fg"), Standing.of, ground, "fg", (9,), (9,), "no")
+        self.refuses(NoLine({}), Standing.of, ground, (), {}, (9,), "no")
+        self.refuses(NoDay(None), Standing.of, ground, (), (), None, "no")
         self.refuses(NoFix("f"), Standing.of, ground, ("f", "f"), (), ())
         self.refuses(NoFix("z"), Standing.of, ground, ("f", "z"), (9,), (9,), "no")
         self.refuses(NoLine(1), Standing.of, ground, ("f",), (2, 1), (9,), "no")

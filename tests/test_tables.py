@@ -137,6 +137,16 @@ class LetDeedsTest(EditionTest):
         self.assertGreater(min(held.values()), 150)
 
 
+    def test_main_beside_lines(self):
+        """Beside main as own none of the words of two lines is true, whatever was tried."""
+        both = Standing.read("kind 0 2 ; tells last live tries ; straight ; main - ; line - open - last some live some fresh ; "
+                             "line - open - last some live some fresh ; two yes yes yes yes")
+        for word in ("tried", "probed", "backed", "met"):
+            for text, is_let in ((f"cut elder: other {word}", False), (f"cut elder: other un{word}", True)):
+                gate = Gate(Book.read(text), both.kind, both.features)
+                self.assertEqual(gate.told_of(both, "cut"), [(Deed.read("cut"), is_let)])
+
+
 class WalkedTest(EditionTest):
     def test_by_hand(self):
         rows = [(str(standing).split(" ; ", 3)[3], [str(deed) for deed in deeds]) for standing, deeds in
