@@ -138,10 +138,10 @@ class Standing(View):
         kind = Kind(len(fixes), len(lines), [list(lines).index(ground.home_of(day)) + 1 for day in days])
         refuse_features(kind, features)
         told = tuple([line_of_state(ground.lines[line - 1], fixes) for line in lines])
-        states = [ground.days[day - 1] for day in days]
-        kept_days = tuple([(bools_of(state.lot, fixes), state.is_shut) for state in states])
+        made = [ground.days[day - 1] for day in days]
+        days_told = tuple([(bools_of(day.lot, fixes), day.is_shut) for day in made])
         is_turned = len(fixes) == 2 and fixes[0] > fixes[1]
-        state = (is_turned, bools_of(ground.main, fixes), told, two_of_ground(ground, lines), kept_days)
+        state = (is_turned, bools_of(ground.main, fixes), told, two_of_ground(ground, lines), days_told)
         return cls(kind, features, state_within(state, kind, features))
 
     @classmethod
