@@ -75,15 +75,15 @@ class Strides:
     def ahead_of(self, start):
         """A dict from all to which climbs lead from a release to the one ahead on a shortest climb; None for itself."""
         found = {start: None}
-        level = [start]
-        while level:
-            later = []
-            for place in level:
-                for goal in self.steps_from(place):
-                    if goal not in found:
-                        found[goal] = place
-                        later.append(goal)
-            level = later
+        met = [start]
+        at = 0
+        while at < len(met):
+            place = met[at]
+            later = [goal for goal in self.steps_from(place) if goal not in found]
+            for goal in later:
+                found[goal] = place
+            met.extend(later)
+            at += 1
         return found
 
 

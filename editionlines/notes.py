@@ -72,7 +72,9 @@ class Note:
 
     def __str__(self):
         told = [*[f"+{fix}" for fix in self.gained], *[f"-{fix}" for fix in self.lost]]
-        return " ".join(told) if told else "-"
+        if not told:
+            return "-"
+        return " ".join(told)
 
     def __eq__(self, other):
         return isinstance(other, Note) and self.gained == other.gained and self.lost == other.lost

@@ -48,12 +48,13 @@ class Trial:
 
     def __init__(self, project):
         self.project = project
-        self.is_kept = False
+        self.target = project
         self.went = None
         self.rules = None
         self.taken = ()
 
     def __enter__(self):
+        self.target = self.project
         self.went = self.project.went
         self.rules = self.project.rules
         self.taken = self.project.taken
@@ -61,14 +62,16 @@ class Trial:
 
     def keep(self):
         """What is done in the block stays, if no error leaves it."""
-        self.is_kept = True
+        # What was ahead of the block is put back behind it: here, where it already is, and not to the project.
+        self.target = self
 
     def __exit__(self, kind, value, trace):
-        project = self.project
-        if kind is not None or not self.is_kept:
-            project.went = self.went
-            project.rules = self.rules
-            project.taken = self.taken
+        if kind is not None:
+            self.target = self.project
+        target = self.target
+        target.went = self.went
+        target.rules = self.rules
+        target.taken = self.taken
 
 
 class Project:

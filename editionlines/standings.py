@@ -151,7 +151,7 @@ class Standing(View):
         return cls(kind, features, state)
 
     def __str__(self):
-        return text_of(self.kind, self.features, self.state)
+        return str(text_of(self.kind, self.features, self.state))
 
     def __eq__(self, other):
         if not isinstance(other, Standing) or self.kind != other.kind:

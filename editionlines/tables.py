@@ -59,24 +59,26 @@ def walked(book, kind, features):
         raise BadBook("book")
     starts = Standing.starts(kind, features)
     gate = Gate(book, kind, features)
-    met = {}
-    level = []
-    for standing in starts:
-        met[standing.state] = True
-        level.append((standing, ()))
-        yield standing, ()
-    while level:
+    met = {start.state: True for start in starts}
+    pairs = [(start, ()) for start in starts]
+    for start in starts:
+        yield start, ()
+    at = 0
+    while at < len(pairs):
+        standing, deeds = pairs[at]
         later = []
-        for standing, deeds in level:
-            for deed, state in states_behind(gate, book, standing):
-                if state not in met:
-                    if len(met) == MOST_STANDINGS:
-                        raise TooMany("standings", MOST_STANDINGS)
-                    met[state] = True
-                    pair = (Standing(kind, features, state), (*deeds, deed))
-                    later.append(pair)
-                    yield pair
-        level = later
+        for deed, state in states_behind(gate, book, standing):
+            if state not in met:
+                met[state] = True
+                later.append((Standing(kind, features, state), (*deeds, deed)))
+        many = len(pairs)
+        for pair in later:
+            if many == MOST_STANDINGS:
+                raise TooMany("standings", MOST_STANDINGS)
+            many += 1
+            yield pair
+        pairs.extend(later)
+        at += 1
 
 
 def reached(book, wish):

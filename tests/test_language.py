@@ -24,6 +24,7 @@ TWO_SIDED = "__eq__ __lt__ __le__ __gt__ __ge__ __add__ __sub__ __mul__ __rmul__
 NOWHERE = "register mro elements open input law version_info with_traceback add_note".split()
 NO_WORDS = """typing typing_extensions enum Enum IntEnum StrEnum Flag IntFlag Generic Protocol ABC ABCMeta namedtuple
 NamedTuple TypedDict TYPE_CHECKING abstractmethod""".split()
+CHANGES = "append extend insert pop remove clear update setdefault reverse sort add discard".split()
 NODES = (ast.GeneratorExp, ast.AsyncFunctionDef, ast.Global, ast.Nonlocal, ast.AnnAssign, ast.Div, ast.Match,
          ast.NamedExpr, ast.SetComp, ast.Set, ast.Import, ast.Delete, ast.Await)
 
@@ -90,6 +91,55 @@ def top_names(tree):
     defined = [node.name for node in tree.body if isinstance(node, (ast.FunctionDef, ast.ClassDef))]
     values = [node.targets[0].id for node in tree.body if isinstance(node, ast.Assign)]
     return imported, defined, values
+
+
+def parts_named(node):
+    """The names and fields that an expression may stand for: through items, choices and rows of such, too."""
+    if isinstance(node, ast.Name):
+        return [node.id]
+    if isinstance(node, ast.Attribute):
+        return ["." + node.attr]
+    if isinstance(node, (ast.Subscript, ast.Starred)):
+        return parts_named(node.value)
+    rows = {ast.IfExp: lambda: [node.body, node.orelse], ast.BoolOp: lambda: node.values,
+            ast.Tuple: lambda: node.elts, ast.List: lambda: node.elts}
+    return [name for part in rows.get(type(node), list)() for name in parts_named(part)]
+
+
+def groups_of(function):
+    """A function that tells one word for all names of a function that an assignment makes one another."""
+    group = {}
+
+    def first(name):
+        while group.get(name, name) != name:
+            name = group[name]
+        return name
+
+    for node in ast.walk(function):
+        if isinstance(node, ast.Assign):
+            for one in [name for target in node.targets for name in parts_named(target)]:
+                for other in parts_named(node.value):
+                    group[first(one)] = first(other)
+    return first
+
+
+def walked_names(node):
+    """What a loop over an expression walks, also through enumerate, zip and the like."""
+    if not isinstance(node, ast.Call):
+        return parts_named(node)
+    if getattr(node.func, "id", "") in ("enumerate", "zip", "reversed"):
+        return [name for part in node.args for name in walked_names(part)]
+    if getattr(node.func, "attr", "") in ("items", "keys", "values"):
+        return walked_names(node.func.value)
+    return []
+
+
+def changed_names(node):
+    """What a statement or a call changes."""
+    if isinstance(node, ast.Call) and isinstance(node.func, ast.Attribute) and node.func.attr in CHANGES:
+        return parts_named(node.func.value)
+    targets = node.targets if isinstance(node, ast.Assign) else [getattr(node, "target", None)]
+    return [name for target in targets if isinstance(target, ast.Subscript) for name in parts_named(target)]
 
 
 class FilesTest(unittest.TestCase):
@@ -329,8 +379,42 @@ class FormsTest(unittest.TestCase):
                     self.assertEqual(told, OPERANDS[node.name], name)
                 if node.name in TWO_SIDED:
                     self.assertEqual(told, ["self", "other"], name)
-                if node.name == "__str__":
+                if node.name in ("__str__", "__repr__", "__len__"):
                     self.assertIsInstance(node.body[-1], ast.Return)
+
+    def test_returns_of_double_underscores(self):
+        for name, node in nodes(ast.FunctionDef):
+            told = [ast.unparse(part.value) for part in ast.walk(node) if isinstance(part, ast.Return) and part.value]
+            if node.name in ("__str__", "__repr__"):
+                for text in told:
+                    self.assertRegex(text, r"""^(f?'[^']*'|f".*"|(str|repr)\(.*\)|'[^']*'\.join\(.*\))$""", (name, node.lineno))
+            if node.name == "__len__":
+                for text in told:
+                    self.assertRegex(text, r"^(len\(.*\)|\d+)$", (name, node.lineno))
+            if node.name == "__init__":
+                self.assertEqual(told, [], (name, node.lineno))
+
+    def test_exits(self):
+        for name, node in nodes(ast.FunctionDef):
+            if node.name == "__exit__":
+                for part in ast.walk(node):
+                    if isinstance(part, ast.If):
+                        self.assertRegex(ast.unparse(part.test), r"^kind is (not )?None$", (name, part.lineno))
+                    if isinstance(part, ast.Assign):
+                        self.assertRegex(ast.unparse(part), r"^\w+(\.\w+)? = \w+(\.\w+)?$", (name, part.lineno))
+                    if isinstance(part, ast.stmt):
+                        self.assertIsInstance(part, (ast.FunctionDef, ast.If, ast.Assign), (name, part.lineno))
+
+    def test_what_loops_walk_is_not_changed(self):
+        for name, node in nodes(ast.FunctionDef):
+            first = groups_of(node)
+            for loop in ast.walk(node):
+                if isinstance(loop, ast.For):
+                    walked = [first(part) for part in walked_names(loop.iter)]
+                    for row in loop.body:
+                        for part in ast.walk(row):
+                            for changed in changed_names(part):
+                                self.assertNotIn(first(changed), walked, (name, part.lineno))
 
     def test_orders_stand_in_no_family(self):
         for name in CLASSES:
