@@ -5,7 +5,7 @@ from editionlines.deeds import Deed
 from editionlines.errors import BadBook, BadClause, BadDeed, BadHistory, BadText, TooMany
 from editionlines.histories import History
 from editionlines.kinds import FEATURES
-from editionlines.papers import Paper, kept
+from editionlines.papers import Paper, kept_value
 from editionlines.views import View
 from editionlines.words import Words, pieces
 
@@ -16,8 +16,8 @@ class Refusal(Paper):
     """The first clause of a book that does not hold of a deed, and its first Case in which it fails."""
 
     def __init__(self, clause, case):
-        self.clause = kept(clause)
-        self.case = kept(case)
+        self.clause = kept_value(clause)
+        self.case = kept_value(case)
 
     def held(self):
         """The tuple of the values of all attributes."""

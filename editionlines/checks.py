@@ -16,3 +16,10 @@ def is_fix(value):
     if not isinstance(value, str) or not 1 <= len(value) <= 8:
         return False
     return all(["a" <= letter <= "z" for letter in value])
+
+
+def is_just(value, told):
+    """Whether any value is equal to a told one and of the same kind, also in the parts of tuples."""
+    if isinstance(value, tuple) and isinstance(told, tuple):
+        return len(value) == len(told) and all([is_just(part, other) for part, other in zip(value, told)])
+    return type(value) is type(told) and value == told

@@ -5,7 +5,7 @@ from editionlines.errors import BadClause, BadDeed, BadNeeds, TooMany
 from editionlines.kinds import FEATURES
 from editionlines.literals import Literal, words_of
 from editionlines.needs import Needs
-from editionlines.papers import Paper, kept
+from editionlines.papers import Paper, kept_value
 from editionlines.vocabulary import is_two_word
 from editionlines.views import View, refuse_missing
 from editionlines.words import Words
@@ -19,10 +19,10 @@ class Case(Paper):
     """Of what a clause is asked: its own line, the fix, the other line or fix, the day; None for what there is not."""
 
     def __init__(self, line, fix, other, day):
-        self.line = kept(line)
-        self.fix = kept(fix)
-        self.other = kept(other)
-        self.day = kept(day)
+        self.line = kept_value(line)
+        self.fix = kept_value(fix)
+        self.other = kept_value(other)
+        self.day = kept_value(day)
 
     def held(self):
         """The tuple of the values of all attributes."""

@@ -4,7 +4,7 @@ from editionlines.checks import is_integer
 from editionlines.errors import BadLot, BadWay
 from editionlines.lots import Lot
 from editionlines.numbers import Number
-from editionlines.papers import Denial, Paper, kept
+from editionlines.papers import Denial, Paper, kept_value
 from editionlines.ways import all_places, live_places, lot_at, refuse_history
 
 
@@ -12,7 +12,7 @@ class Climb(Paper):
     """The Numbers of the releases of a climb."""
 
     def __init__(self, numbers):
-        self.numbers = kept(numbers)
+        self.numbers = kept_value(numbers)
 
     def held(self):
         """The tuple of the values of all attributes."""
@@ -23,7 +23,7 @@ class NoClimb(Denial):
     """Numbers of releases, the start among them and the goal not, from which no step leads to another release."""
 
     def __init__(self, numbers):
-        self.numbers = kept(numbers)
+        self.numbers = kept_value(numbers)
 
     def held(self):
         """The tuple of the values of all attributes."""

@@ -6,7 +6,7 @@ from editionlines.errors import BadBook, BadClause
 from editionlines.gates import Gate
 from editionlines.histories import History
 from editionlines.kinds import Kind, closed
-from editionlines.papers import Denial, Paper, kept
+from editionlines.papers import Denial, Paper, kept_value
 from editionlines.tables import lot_of, needs_of, walked
 
 MAIN_KINDS = ("fix", "unfix", "cut")
@@ -18,7 +18,7 @@ class Follows(Paper):
     """A closed table of Standings at each of which a clause lets each deed that a book lets."""
 
     def __init__(self, table):
-        self.table = kept(table)
+        self.table = kept_value(table)
 
     def held(self):
         """The tuple of the values of all attributes."""
@@ -29,7 +29,7 @@ class Within(Paper):
     """For each clause of a book, ascending, a table that shows that it follows from another one."""
 
     def __init__(self, tables):
-        self.tables = kept(tables)
+        self.tables = kept_value(tables)
 
     def held(self):
         """The tuple of the values of all attributes."""
@@ -40,7 +40,7 @@ class Parting(Denial):
     """A History that a book lets, and whose last deed a clause, or another book, does not let."""
 
     def __init__(self, history):
-        self.history = kept(history)
+        self.history = kept_value(history)
 
     def held(self):
         """The tuple of the values of all attributes."""

@@ -41,6 +41,14 @@ def rows_of(things, many):
     return rows
 
 
+def sets_of(things):
+    """The ascending list of all ascending tuples of some ascending things, of any number of them."""
+    rows = [()]
+    for thing in things[::-1]:
+        rows = [(), *[(thing, *row) for row in rows], *rows[1:]]
+    return rows
+
+
 def few_things(history, fixes, lines, days):
     """A generator of all triples of a Lot, lines, and days of these lines of a history, of so many each."""
     if not isinstance(history, History):

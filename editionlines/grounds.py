@@ -5,7 +5,7 @@ from editionlines.checks import is_within
 from editionlines.deeds import Deed, OfDay, OfTwo, OnMain
 from editionlines.errors import BadDeed, BadLot, BadPlace, EditionError, NoDay, NoLine, TooMany, Undone
 from editionlines.lots import Lot
-from editionlines.papers import Paper, kept
+from editionlines.papers import Paper, kept_value
 from editionlines.views import View, refuse_missing
 
 # What a deed tries, as the word that is true of its lines behind it.
@@ -16,10 +16,10 @@ class LineState(Paper):
     """A line: what it has, the Lots of its releases, which of these is live, and whether the line is open."""
 
     def __init__(self, lot, releases=(), live=None, is_open=True):
-        self.lot = kept(lot)
-        self.releases = kept(releases)
-        self.live = kept(live)
-        self.is_open = kept(is_open)
+        self.lot = kept_value(lot)
+        self.releases = kept_value(releases)
+        self.live = kept_value(live)
+        self.is_open = kept_value(is_open)
 
     def held(self):
         """The tuple of the values of all attributes."""
@@ -30,9 +30,9 @@ class DayState(Paper):
     """A day: the number of its line, what it was made with, and whether it is shut."""
 
     def __init__(self, line, lot, is_shut=False):
-        self.line = kept(line)
-        self.lot = kept(lot)
-        self.is_shut = kept(is_shut)
+        self.line = kept_value(line)
+        self.lot = kept_value(lot)
+        self.is_shut = kept_value(is_shut)
 
     def held(self):
         """The tuple of the values of all attributes."""
@@ -107,23 +107,23 @@ def done_numbers(deed):
     return [number for number in deed.named() if deed.stop() is None or number <= deed.stop()]
 
 
-def place_of(pairs, pair):
-    """How many of some ascending pairs are less than a pair."""
+def place_of(things, thing):
+    """How many of some ascending things are less than a thing."""
     low = 0
-    high = len(pairs)
+    high = len(things)
     while low < high:
         middle = (low + high) // 2
-        if pairs[middle] < pair:
+        if things[middle] < thing:
             low = middle + 1
         else:
             high = middle
     return low
 
 
-def is_among(pairs, pair):
-    """Whether a pair is one of some ascending pairs."""
-    at = place_of(pairs, pair)
-    return at < len(pairs) and pairs[at] == pair
+def is_among(things, thing):
+    """Whether a thing is one of some ascending things."""
+    at = place_of(things, thing)
+    return at < len(things) and things[at] == thing
 
 
 def refuse_numbers(numbers, count, is_line):

@@ -3,7 +3,7 @@
 from editionlines.books import Book
 from editionlines.errors import BadBook, BadWish
 from editionlines.histories import History
-from editionlines.papers import Denial, Paper, kept
+from editionlines.papers import Denial, Paper, kept_value
 from editionlines.tables import features_of, is_broken, lot_of, needs_of, walked
 from editionlines.wishes import Wish
 
@@ -12,7 +12,7 @@ class Holds(Paper):
     """A closed table of Standings at which a wish is not broken."""
 
     def __init__(self, table):
-        self.table = kept(table)
+        self.table = kept_value(table)
 
     def held(self):
         """The tuple of the values of all attributes."""
@@ -23,8 +23,8 @@ class Broken(Denial):
     """A History that a book lets, and the things of it that break a wish."""
 
     def __init__(self, history, things):
-        self.history = kept(history)
-        self.things = kept(things)
+        self.history = kept_value(history)
+        self.things = kept_value(things)
 
     def held(self):
         """The tuple of the values of all attributes."""

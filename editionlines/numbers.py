@@ -3,7 +3,7 @@
 from editionlines.bounds import LINES, RELEASES
 from editionlines.checks import is_within
 from editionlines.errors import BadNumber
-from editionlines.papers import Paper, kept
+from editionlines.papers import Paper, kept_value
 from editionlines.words import Words, number_of
 
 
@@ -68,8 +68,8 @@ class Release(Paper):
     """A release: its number, and what its line had when it was offered."""
 
     def __init__(self, number, lot):
-        self.number = kept(number)
-        self.lot = kept(lot)
+        self.number = kept_value(number)
+        self.lot = kept_value(lot)
 
     def held(self):
         """The tuple of the values of all attributes."""

@@ -8,13 +8,13 @@ def is_open_to_change(value):
     return isinstance(value, (list, dict))
 
 
-def kept(value):
+def kept_value(value):
     """The value; of lists and dicts in it copies, so that later changes do not reach what keeps it."""
     if not is_open_to_change(value):
         return value
     if isinstance(value, dict):
-        return {key: kept(value[key]) for key in value}
-    parts = [kept(part) for part in value]
+        return {key: kept_value(value[key]) for key in value}
+    parts = [kept_value(part) for part in value]
     return parts if isinstance(value, list) else tuple(parts)
 
 

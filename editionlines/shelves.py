@@ -7,7 +7,7 @@ from editionlines.cutting import rows_of
 from editionlines.errors import BadBook, BadHistory, BadNumber, BadWish, TooMany
 from editionlines.histories import History
 from editionlines.judging import judged
-from editionlines.papers import Denial, Paper, kept
+from editionlines.papers import Denial, Paper, kept_value
 from editionlines.wishes import Wish
 
 MOST_WISHES = 4
@@ -18,9 +18,9 @@ class Choices(Paper):
     """The least choices, for each of them the Holds of each wish, and rows: histories that the others let."""
 
     def __init__(self, least, holds, rows):
-        self.least = kept(least)
-        self.holds = kept(holds)
-        self.rows = kept(rows)
+        self.least = kept_value(least)
+        self.holds = kept_value(holds)
+        self.rows = kept_value(rows)
 
     def held(self):
         """The tuple of the values of all attributes."""
@@ -31,7 +31,7 @@ class NoChoice(Denial):
     """A row, whose history all clauses let that are not out: so no choice keeps the wishes."""
 
     def __init__(self, row):
-        self.row = kept(row)
+        self.row = kept_value(row)
 
     def held(self):
         """The tuple of the values of all attributes."""

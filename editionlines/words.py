@@ -42,6 +42,18 @@ def pieces(words, start, sign):
     return rows
 
 
+def take_rest(words, read):
+    """What the words that are left, of which one must be, tell by the function read."""
+    if not words.is_next():
+        words.refuse()
+    spot = words.spot
+    rest = list(words)[spot:]
+    try:
+        return read(" ".join(rest))
+    except BadText as error:
+        raise BadText(words.line, spot + error.word) from error
+
+
 class Words:
     """The words between single spaces of a text, and how many of them were taken; line is told in errors."""
 

@@ -3,6 +3,7 @@
 import os
 import unittest
 
+from editionlines.compared import Parting
 from editionlines.deeds import Meet
 from editionlines.errors import Barred
 
@@ -38,10 +39,10 @@ def answer(source, names):
 
 class ExamplesTest(unittest.TestCase):
     def test_all(self):
-        # The document uses Meet without having imported it.
-        names = {"Meet": Meet}
+        # The document uses these two without having imported them.
+        names = {"Meet": Meet, "Parting": Parting}
         rows = examples()
-        self.assertEqual(len(rows), 127)
+        self.assertEqual(len(rows), 193)
         for number, source, expected in rows:
             with self.subTest(row=number, source=source):
                 self.assertEqual(answer(source, names), expected)

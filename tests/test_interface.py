@@ -23,6 +23,21 @@ FUNCTIONS = {
              "bared": "history"},
     "climbs": {"climb": "history, start, goal, lot, stride, live=False", "stuck": "history, lot, stride",
                "shows_climb": "history, start, goal, lot, stride, value, live=False"},
+    "tries": {"untried": "history", "may_meet": "history", "settling": "history"},
+    "takedowns": {"at_once": "history", "takedown": "history, prices=None"},
+    "look_takedowns": {"shows_takedown": "history, value, prices=None"},
+    "rollouts": {"rollout": "history, *kept", "rise_stops": "history"},
+    "look_rollouts": {"shows_rollout": "history, value, *kept"},
+    "dues": {"day_word": "history, day", "due_days": "history", "late_days": "history", "dropped_days": "history"},
+    "webs": {"again": "history, web, *days"},
+    "catchups": {"least_amount": "history, web, nights", "listed": "history, web, amounts, nights",
+                 "nightly": "history, web, amounts, nights", "catchup": "history, web, amounts"},
+    "look_catchups": {"shows_again": "history, web, days, value", "shows_catchup": "history, web, amounts, value"},
+    "repair": {"mending": "history, stays", "mendings": "history", "steps_of": "mending", "price_of": "mending, prices",
+               "least_repair": "history, prices"},
+    "look_repair": {"shows_mending": "history, value", "shows_repair": "history, prices, value"},
+    "texts": {"write_answer": "answer", "project_text": "project"},
+    "reader": {"read_answer": "text", "read_project": "text"},
 }
 # Of each class the parameters of the class, and its methods with their parameters; double underscores are left out.
 CLASSES = {
@@ -99,6 +114,20 @@ CLASSES = {
         "Choices": ("least, holds, rows", {}), "NoChoice": ("row", {})},
     "notes": {"Note": ("gained, lost", {"add": "other", "neg": "", "bool": "", "eq": "other", "str": "", "read": "text"})},
     "climbs": {"Climb": ("numbers", {}), "NoClimb": ("numbers", {})},
+    "takedowns": {"Takedown": ("lines, price", {})},
+    "rollouts": {"Rollout": ("deeds", {}), "Stuck": ("stands", {})},
+    "webs": {
+        "Web": ("*ties", {"contains": "x", "len": "", "iter": "", "or": "other", "eq": "other", "sources": "history, day",
+                          "users": "history, day", "cut_to": "lines", "str": "", "read": "text"}),
+        "Again": ("days, left", {})},
+    "catchups": {"Over": ("nights", {}), "Never": ("begin, later", {})},
+    "prices": {"Prices": ("carry=1, test=1, again=1, down=None, special=None", {
+        "call": "deed", "sum_of": "deeds", "add": "other", "mul": "other", "rmul": "other", "eq": "other"})},
+    "repair": {"Mending": ("stays, lots, downs, carried, renewed, tests, redone", {}), "Unmended": ("stays, lots, line", {}),
+               "Repair": ("price, mending, rows", {}), "NoRepair": ("rows", {})},
+    "desk": {"Desk": ("", {
+        "ask": "line", "call": "line", "run": "*lines", "project_now": "", "wishes_now": "", "web_now": "", "len": "",
+        "contains": "x", "eq": "other"})},
 }
 
 

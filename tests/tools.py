@@ -5,10 +5,12 @@ import random
 import unittest
 
 from editionlines.books import Book
+from editionlines.catchups import Never, Over
 from editionlines.clauses import Case, Clause
 from editionlines.climbs import Climb, NoClimb
 from editionlines.compared import Follows, Parting, Within
 from editionlines.deeds import Cut, Deed, Fix, Night
+from editionlines.desk import Desk
 from editionlines.errors import BadFix, BadText, EditionError
 from editionlines.grounds import Ground, LineState
 from editionlines.histories import History
@@ -19,13 +21,20 @@ from editionlines.lots import Lot
 from editionlines.needs import Needs
 from editionlines.notes import Note
 from editionlines.numbers import Number, Release
+from editionlines.prices import Prices
 from editionlines.projects import Project
+from editionlines.repair import Mending, NoRepair, Repair, Unmended
+from editionlines.rollouts import Rollout, Stuck
 from editionlines.shelves import Choices, NoChoice, Shelf
 from editionlines.standings import Standing
 from editionlines.stands import LineStand
+from editionlines.takedowns import Takedown
+from editionlines.webs import Again, Web
 from editionlines.wishes import DAY_LETTERS, LINE_LETTERS, Fact, Wish
 from editionlines.words import Words
 
+RELEASE_KINDS = ("offer", "offer", "live", "live", "rise", "down", "try", "probe", "meet", "meet", "carry", "fix", "end")
+DAY_KINDS = ("offer", "live", "live", "down", "carry", "drop", "day", "night", "night", "redo", "renew", "shut")
 ALL_FEATURES = [words for many in range(6) for words in itertools.combinations(FEATURES, many) if closed(words) == words]
 
 
@@ -41,6 +50,8 @@ def any_values():
         Standing.starts(Kind(1, 0))[0], LineStand((), True, (), None, None, False), Fact("A", "up"), Wish(Kind(0, 0)),
         Project(Lot("f")), Holds(()), Broken(None, {}), Judge(), Follows(()), Within(()), Parting(None), Shelf(),
         Choices((), (), ()), NoChoice(None), Note(Lot(), Lot()), Climb(()), NoClimb(()), Release(None, None),
+        Takedown((), 0), Rollout(()), Stuck(()), Web(), Web((1, 1, 0)), Again((), ()), Over(0), Never(0, 1), Prices(), Desk(),
+        Mending((), (), (), (), (), (), ()), Unmended((1,), (), 1), Repair(0, None, ()), NoRepair(()),
     ]
 
 
@@ -142,9 +153,9 @@ def spoilt_texts(text, more=()):
     return list(found)
 
 
-def random_deed(rng, fixes, lines, days):
-    """A deed of any kind, which perhaps cannot be done."""
-    kind = rng.choice(Deed.KINDS)
+def random_deed(rng, fixes, lines, days, kinds=Deed.KINDS):
+    """A deed of any of some kinds, which perhaps cannot be done."""
+    kind = rng.choice(kinds if lines > 1 else [kind for kind in kinds if kind not in ("try", "probe", "meet")])
     fix = rng.choice(list(fixes) or ["f"])
     some = sorted(rng.sample(range(1, lines + 1), rng.randint(1, lines)))
     several = sorted(rng.sample(range(1, days + 1), rng.randint(1, min(days, 3))))
@@ -181,6 +192,16 @@ def random_history(rng, fixes=("f", "g", "h"), lines=3, days=4, many=25, needs=N
         if deed.KIND in ("end", "shut", "down") and rng.random() < 0.7:
             continue
         if history.ground.can(deed) and len(history) < many:
+            history = history + deed
+    return history
+
+
+def busy_history(rng, lines=4, many=25, fixes=("f", "g"), days=6, kinds=(), needs=None):
+    """A history whose lines are all there from its beginning, of deeds of some kinds that can be done."""
+    history = History(Lot(*fixes), [Cut()] * lines, needs)
+    for _ in range(many * 5):
+        deed = random_deed(rng, fixes, lines, days, kinds or RELEASE_KINDS)
+        if len(history) < many + lines and history.ground.can(deed):
             history = history + deed
     return history
 

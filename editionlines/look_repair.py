@@ -1,0 +1,37 @@
+"""Whether what is told of mendings and repairs is right, looked at without a search."""
+
+from editionlines.checks import is_just, is_within
+from editionlines.repair import Mending, NoRepair, Repair, Unmended, least_repair, mending, up_lines
+
+
+def is_same_mending(value, told):
+    """Whether any value is just this Mending or Unmended."""
+    if isinstance(told, Mending):
+        return isinstance(value, Mending) and is_just(value.held(), told.held())
+    return isinstance(value, Unmended) and is_just(value.held(), told.held())
+
+
+def are_stays(history, value):
+    """Whether any value is an ascending tuple of lines that are up."""
+    up = up_lines(history)
+    if not isinstance(value, tuple) or not all([is_within(line, 1, history.ground.line_count) for line in value]):
+        return False
+    return all([line in up for line in value]) and all([one < other for one, other in zip(value, value[1:])])
+
+
+def shows_mending(history, value):
+    """Whether any value is a Mending or an Unmended of a history, for some lines that stay."""
+    up_lines(history)
+    if not isinstance(value, (Mending, Unmended)) or not are_stays(history, value.stays):
+        return False
+    return is_same_mending(value, mending(history, value.stays))
+
+
+def shows_repair(history, prices, value):
+    """Whether any value is the Repair or the NoRepair of a history."""
+    found = least_repair(history, prices)
+    if isinstance(found, NoRepair):
+        return isinstance(value, NoRepair) and is_just(value.rows, found.rows)
+    if not isinstance(value, Repair) or not is_same_mending(value.mending, found.mending):
+        return False
+    return is_just((value.price, value.rows), (found.price, found.rows))
