@@ -6,9 +6,7 @@ from editionlines.repair import Mending, NoRepair, Repair, Unmended, least_repai
 
 def is_same_mending(value, told):
     """Whether any value is just this Mending or Unmended."""
-    if isinstance(told, Mending):
-        return isinstance(value, Mending) and is_just(value.held(), told.held())
-    return isinstance(value, Unmended) and is_just(value.held(), told.held())
+    return type(value) is type(told) and is_just(value.held(), told.held())
 
 
 def are_stays(history, value):

@@ -1,15 +1,13 @@
 """Whether what is told of a rollout is right, looked at without a search."""
 
-from editionlines.deeds import Deed
 from editionlines.rollouts import STAND_WORDS, Rolling, Rollout, Stuck
 
 
 def stand_behind(rolling, stand, deed):
     """The stand to which any value leads as a step from a stand, None if it is no step from it."""
-    if isinstance(deed, Deed):
-        for told, behind in rolling.steps_at(stand):
-            if told == deed:
-                return behind
+    for told, behind in rolling.steps_at(stand):
+        if told == deed:
+            return behind
     return None
 
 
@@ -29,7 +27,7 @@ def is_stand(rolling, value):
     """Whether any value is a tuple of a word for each mover."""
     if not isinstance(value, tuple) or len(value) != len(rolling.movers):
         return False
-    return all([isinstance(word, str) and word in STAND_WORDS for word in value])
+    return all([word in STAND_WORDS for word in value])
 
 
 def is_stuck(rolling, stands):

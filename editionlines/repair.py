@@ -175,10 +175,8 @@ def price_of(mending, prices):
 
 def least_repair(history, prices):
     """The Repair of the least price; of equal prices the one counts in which most lines stay, then the lesser tuple."""
-    refuse_history(history)
-    if not isinstance(prices, Prices):
-        raise BadPrice("prices")
     found = list(mendings(history))
+    # There is always a mending of which price_of refuses what is no Prices: that of no lines.
     rows = tuple([(one.stays, price_of(one, prices)) for one in found])
     best = None
     for at, (stays, price) in enumerate(rows):

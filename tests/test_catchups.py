@@ -209,6 +209,32 @@ class CatchupTest(EditionTest):
         fast = nights_of(1, 200, [1])
         self.assertEqual([catchup(fast, Web(), (1, 0, 0, 0, 0)), least_amount(fast, Web(), 1), least_amount(fast, Web(), 1000)], [Over(996), 200, 1])
 
+    def test_the_last_night(self):
+        # The list is empty behind 1,000 nights, and behind 1,001.
+        self.assertEqual(catchup(nights_of(1, 200, [1]), Web(), (0, 0, 0, 0, 1)), Over(1000))
+        self.assertIs(shows_catchup(nights_of(1, 200, [1]), Web(), (0, 0, 0, 0, 1), Over(1000)), True)
+        self.refuses(TooMany("nights", 1000), catchup, nights_of(1, 126, [1]), Web(), (1, 0, 0, 0, 0, 0, 0, 0))
+        self.assertIs(shows_catchup(nights_of(1, 126, [1]), Web(), (1, 0, 0, 0, 0, 0, 0, 0), Over(1001)), False)
+
+    def test_the_only_answer(self):
+        # One day of line 1 in nine, and one of line 2 in ten, is on the list, and amounts come round in eleven nights: all is as
+        # it was behind 990 nights. The last day of line 3 is on the list, too, among the last ten of its line until night 9.
+        rows = ["cut"] * 3 + [f"offer {line}, live {line}" for line in (1, 2, 3)] + ["night 1 2 3"] * 9
+        rows += [f"carry f {line}, offer {line}, live {line}" for line in (1, 2, 3)] + ["night 1 2 3"]
+        rows += [f"drop f {line}, offer {line}, live {line}" for line in (1, 2, 3)]
+        history, web, amounts = History.read("f : " + ", ".join(rows)), Web((1, 1, 8), (2, 2, 9)), (0,) * 11
+        self.assertEqual(due_days(history), (28, 29, 30))
+        self.assertEqual(catchup(history, web, amounts), Never(10, 1000))
+        self.assertIs(shows_catchup(history, web, amounts, Never(10, 1000)), True)
+        for begin, later in ((9, 999), (0, 990), (10, 999), (10, 989), (999, 1000), (11, 1001)):
+            self.assertIs(shows_catchup(history, web, amounts, Never(begin, later)), False)
+        # With eight amounts it would be 360 nights, with seven 630, with twelve 180, with one 90.
+        for many, nights in ((8, 360), (7, 630), (12, 180), (1, 90), (9, 90)):
+            self.assertEqual(catchup(history, web, (0,) * many), Never(10, 10 + nights))
+        # Another line that comes round in seven nights: neither.
+        more = History.read(str(history) + ", cut, carry f 4, offer 4, live 4" + ", day 4" * 6 + ", drop f 4, offer 4, live 4, day 4, carry f 4, offer 4, live 4")
+        self.refuses(TooMany("nights", 1000), catchup, more, web | Web((4, 4, 6)), amounts)
+
     def test_days_without_a_bound(self):
         six = nights_of(6, 30, [1, 2, 3])
         web = Web(*[(line, line, 0) for line in range(1, 7)])
@@ -216,6 +242,8 @@ class CatchupTest(EditionTest):
         self.refuses(TooMany("days", 200), nightly, six, web, (0,), 4)
         self.assertEqual(len(nightly(six, web, (0,), 3)), 3)
         self.assertEqual(nightly(six, web, (0,), 0), ())
+        self.assertEqual(len(nightly(nights_of(1, 190, []), Web(), (0,), 10)), 10)
+        self.refuses(TooMany("days", 200), nightly, nights_of(1, 190, []), Web(), (0,), 11)
 
     def test_least_amount(self):
         many = 0

@@ -12,17 +12,22 @@ from editionlines.histories import History
 from editionlines.judging import judged
 from editionlines.lots import Lot
 from editionlines.needs import Needs
+from editionlines.prices import Prices
 from editionlines.projects import Project
+from editionlines.repair import least_repair, steps_of
 from editionlines.texts import project_text
 from editionlines.webs import Web
 from editionlines.wishes import Wish
-from tools import EditionTest, any_values, random_clause, random_deed, randoms, same
+from tools import EditionTest, any_values, busy_history, random_clause, random_deed, randoms, same
 
 USERS = "wish u never 1 2 : A runs F , B bares F , B up"
 CHANGES = ["lot f g", "needs f : g", "fix f", "finish", "book drop once: never", "clause end once: never", "free end once: never", USERS, "forget u",
            "web 1 from 1 back 0"]
 QUESTIONS = ["show", "clauses", "names", "let cut", "has 0", "kept u", "judge u", "follows cut once: never", "needless", "losses any",
              "climb 1.0 2.0 1 f", "untried", "meetable", "takedown", "rollout", "rollout 1 2", "repair", "due", "late", "remade 1", "catchup 1 2"]
+
+
+REPAIR_KINDS = ("offer", "offer", "live", "live", "live", "carry", "carry", "drop", "meet", "day", "night", "night", "shut")
 
 
 def told(*lines):
@@ -82,12 +87,12 @@ class LinesTest(EditionTest):
 
     def test_wishes_and_webs(self):
         desk = told("wish b never 0 1 : A up", "wish abcdefgh never 0 0 : -", "wish b never 0 1 : A ended", "web 1 from 2 back 3")
-        self.assertEqual(desk("names"), "abcdefgh b")
+        self.assertEqual([desk("names"), desk("wish b never 0 1 : A ended")], ["abcdefgh b", "ok"])
         self.assertEqual(list(desk.wishes_now()), ["abcdefgh", "b"])
         self.assertEqual(desk.wishes_now(), {"b": Wish.read("never 0 1 : A ended"), "abcdefgh": Wish.read("never 0 0 : -")})
         self.assertEqual(desk.web_now(), Web((1, 2, 3)))
         self.assertEqual(desk.run("forget b", "forget b", "names", "forget abcdefgh", "names", "web -"), ["ok", "refused", "abcdefgh", "ok", "-", "ok"])
-        self.assertEqual([desk.web_now(), len(desk)], [Web(), 7])
+        self.assertEqual([desk.web_now(), len(desk)], [Web(), 8])
         self.assertIs("b" in told("wish b never 0 1 : -"), True)
         for value in any_values():
             self.assertIs(value in told("wish f never 0 1 : -"), value == "f")
@@ -110,6 +115,18 @@ class LinesTest(EditionTest):
         self.assertEqual(desk.run("offer 1", "offer 2", "rollout", "rollout 1 2", "probe 1 2", "try 1 2", "rollout 1 2", "rollout 2 1"),
                          ["1.2 f g", "2.1 f g", "stuck", "stuck", "ok", "ok", "live 1, live 2", "live 1, live 2"])
         self.assertEqual(desk.run("drop f 2", "offer 2", "losses any"), ["ok", "2.2 g", "1.1 2.2 f , 1.2 2.2 f , 2.0 2.2 f , 2.1 2.2 f"])
+
+    def test_repairs(self):
+        kinds = {}
+        for rng in randoms("desk repairs", 60):
+            history = busy_history(rng, lines=rng.randint(1, 3), many=30, kinds=REPAIR_KINDS, needs=Needs({"f": ["g"]}))
+            found = least_repair(history, Prices(1, 1, 1, 1))
+            deeds = [str(deed) for deed in steps_of(found.mending)]
+            desk = told("lot f g", "needs f : g", *map(str, history))
+            self.assertEqual(desk("repair"), f"{found.price} : {', '.join(deeds) or '-'}")
+            for deed in deeds:
+                kinds[deed.split(" ")[0]] = True
+        self.assertTrue({"down", "carry", "meet", "redo"} <= set(kinds), kinds)
 
     def test_wishes_that_are_asked(self):
         desk = told("lot f g", "needs f : g", "wish a never 0 2 : A up , B up", "wish b never 0 0 : -", "wish c never 0 0 : main open",
@@ -192,7 +209,7 @@ class WordsTest(EditionTest):
             ("wish abcdefghi never 0 0 : -", 1), ("wish u ever", 2), ("wish u never 0 0 : main runs F", 8), ("wish u never 3", 3), ("forget", 1),
             ("forget u x", 2), ("forget 1", 1), ("web", 1), ("web 1", 2), ("web 1 from 1 back 0 , 1 from 1 back 0", 11), ("web 1 from 7", 3), ("undo 1", 1),
             ("again again", 1), ("show x", 1), ("clauses -", 1), ("names u", 1), ("let", 1), ("let fix", 2), ("let let", 1), ("let cut 1", 2),
-            ("has", 1), ("has f", 1), ("has -1", 1), ("has 01", 1), ("has 0 1", 2), ("has " + "9" * 61, 1), ("kept", 1), ("kept u u", 2), ("judge", 1),
+            ("has", 1), ("has f", 1), ("has -1", 1), ("has 01", 1), ("has 0 1", 2), ("has " + "9" * 61, 1), ("has 1" + "0" * 60, 1), ("kept", 1), ("kept u u", 2), ("judge", 1),
             ("judge 7", 1), ("follows", 1), ("follows cut", 2), ("follows cut once: never x", 4), ("needless x", 1), ("losses", 1), ("losses all", 1),
             ("losses any x", 2), ("climb", 1), ("climb 1.0", 2), ("climb 1.0 2.0", 3), ("climb 1.0 2.0 1", 4), ("climb 1 2.0 1 f", 1),
             ("climb 1.0 7.0 1 f", 2), ("climb 1.0 2.0 -1 f", 3), ("climb 1.0 2.0 1 f f", 5), ("climb 1.0 2.0 1 - f", 5), ("untried x", 1), ("meetable 1", 1),

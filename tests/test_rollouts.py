@@ -204,6 +204,9 @@ class RolloutTest(EditionTest):
                        (("old", "old", "old"),), (("old",),), (["old", "old"],), (("old", "odd"),), ((1, 2),), ("old", "old"),
                        tuple(map(list, stuck.stands)), ((("old",), "old"),)):
             self.assertIs(shows_rollout(GATE, Stuck(stands)), False)
+        for odd in (("old",), ("old", "old", "old"), ("old", "odd"), ("old", 1), ["old", "old"], "old", None, ("new",), ("a", "b")):
+            self.assertIs(shows_rollout(GATE, Stuck(stuck.stands + (odd,))), False)
+            self.assertIs(shows_rollout(GATE, Stuck((odd,) + stuck.stands)), False)
         self.assertIs(shows_rollout(GATE, Stuck((("old", "old"),)), 1, 2), True)
         self.assertIs(shows_rollout(GATE, Stuck((("old", "old"),)), 1), False)
         self.assertIs(shows_rollout(GATE, Stuck((("old", [1]),)), 1, 2), False)

@@ -291,7 +291,7 @@ class ProjectTextTest(RowsTest):
         self.refuses_rows(read_project, [
             (head + "drop once: never", 3, 1), (head + "carry once: never", 3, 1), (head + "carry once: bogus", 3, 1), (head + "cut", 3, 1),
             (head + "drop elder: never", 3, 1), (head + "drop once: own x", 3, 4), (head + "drop x", 3, 2), (head + "bogus", 3, 1),
-            (head + "zzz", 3, 1), (head + "drop once: main has", 3, 1)])
+            (head + "zzz", 3, 1), (head + "drop once: main has", 3, 1), (head[:-1], 3, 1), (head, 3, 1)])
         texts = [f"{kind} {scope}: never" for kind in ("carry", "cut", "drop", "end", "fix") for scope in ("elder", "newer", "need", "once", "user")]
         texts = sorted(texts)
         rows = ["lot f", "needs -"] + ["clause " + text for text in texts[:24]]

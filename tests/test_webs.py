@@ -100,7 +100,7 @@ class WebTest(EditionTest):
         self.refuses_words(Web.read, [
             ("", 0), ("- -", 1), ("- ,", 1), ("1", 1), ("1 from", 2), ("1 from 2", 3), ("1 from 2 back", 4), ("0 from 2 back 0", 0),
             ("7 from 2 back 0", 0), ("01 from 2 back 0", 0), ("1 from 0 back 0", 2), ("1 from 7 back 0", 2), ("1 from 2 back 10", 4),
-            ("1 from 2 back -1", 4), ("1 from 2 back 00", 4), ("1 to 2 back 0", 1), ("1 from 2 in 0", 3), ("1 from 2 back 0,", 4),
+            ("1 from 2 back -1", 4), ("1 from 1 back -1", 4), ("1 from 2 back 00", 4), ("1 to 2 back 0", 1), ("1 from 2 in 0", 3), ("1 from 2 back 0,", 4),
             ("1 from 2 back 0 ,", 6), ("1 from 2 back 0 , ", 6), ("1 from 2 back 0 1", 5), ("1 from 2 back 0 , -", 6),
             ("1 from 2 back 0 , 1 from 2 back 0", 10), ("1 from 2 back 3 , 1 from 2 back 1", 10), ("1 from 2 back 0 , 1 from 1 back 5", 8),
             ("2 from 2 back 0 , 1 from 6 back 9", 6), ("1 from 2 back 9 , 1 from 2 back 9", 10), ("6 from 6 back 9 , 6 from 6 back 9", 10),
@@ -140,6 +140,15 @@ class WebTest(EditionTest):
                 users = tuple(other for other in range(1, len(days) + 1) if day in made_from(days, ties, other))
                 self.assertTrue(same(web.users(history, day), users))
         self.assertGreater(many, 200)
+
+    def test_sources_in_six_lines(self):
+        rows = ["cut"] * 6 + [f"offer {line}, live {line}" for line in range(1, 7)] + ["night 1 2 3 4 5 6"] * 4
+        history = History.read("f : " + ", ".join(rows))
+        for rng in randoms("webs of six lines", 6):
+            web, days = Web(*random_ties(rng, 6, 9), (6, 5, 0), (5, 6, 0)), homes(history)
+            for day in range(1, len(days) + 1):
+                self.assertEqual(web.sources(history, day), made_from(days, web.ties, day))
+            self.assertIn(6, web.sources(history, 11))
 
     def test_sources_in_a_history_cut_down(self):
         for rng, history, ties in samples("webs cut down", 25):
