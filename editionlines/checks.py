@@ -11,6 +11,13 @@ def is_within(value, least, most):
     return is_integer(value) and least <= value <= most
 
 
+def is_rising(value, least, most):
+    """Whether a value is an ascending tuple of integers from least to most."""
+    if not isinstance(value, tuple) or not all([is_within(number, least, most) for number in value]):
+        return False
+    return all([one < other for one, other in zip(value, value[1:])])
+
+
 def is_fix(value):
     """Whether a value is a string of 1 to 8 letters from a to z."""
     if not isinstance(value, str) or not 1 <= len(value) <= 8:

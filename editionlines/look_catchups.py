@@ -1,17 +1,10 @@
 """Whether what is told of days that are made again, and of catching up, is right."""
 
 from editionlines.catchups import MOST_NIGHTS, Never, Nights, Over, is_no_less, refuse_caught
-from editionlines.checks import is_just, is_within
+from editionlines.checks import is_just, is_rising, is_within
 from editionlines.errors import BadWeb
 from editionlines.ways import refuse_history
 from editionlines.webs import Again, Web, again
-
-
-def are_days(history, value):
-    """Whether any value is an ascending tuple of numbers of days of a history."""
-    if not isinstance(value, tuple) or not all([is_within(day, 1, history.ground.day_count) for day in value]):
-        return False
-    return all([one < other for one, other in zip(value, value[1:])])
 
 
 def shows_again(history, web, days, value):
@@ -19,7 +12,7 @@ def shows_again(history, web, days, value):
     refuse_history(history)
     if not isinstance(web, Web):
         raise BadWeb("web")
-    if not are_days(history, days):
+    if not is_rising(days, 1, history.ground.day_count):
         raise BadWeb("days")
     return isinstance(value, Again) and is_just(value.held(), again(history, web, *days).held())
 

@@ -1,6 +1,7 @@
 """Whether what is told of mendings and repairs is right, looked at without a search."""
 
-from editionlines.checks import is_just, is_within
+from editionlines.bounds import LINES
+from editionlines.checks import is_just, is_rising
 from editionlines.repair import Mending, NoRepair, Repair, Unmended, least_repair, mending, up_lines
 
 
@@ -9,20 +10,12 @@ def is_same_mending(value, told):
     return type(value) is type(told) and is_just(value.held(), told.held())
 
 
-def are_stays(history, value):
-    """Whether any value is an ascending tuple of lines that are up."""
-    up = up_lines(history)
-    if not isinstance(value, tuple) or not all([is_within(line, 1, history.ground.line_count) for line in value]):
-        return False
-    return all([line in up for line in value]) and all([one < other for one, other in zip(value, value[1:])])
-
-
 def shows_mending(history, value):
     """Whether any value is a Mending or an Unmended of a history, for some lines that stay."""
-    up_lines(history)
-    if not isinstance(value, (Mending, Unmended)) or not are_stays(history, value.stays):
+    up = up_lines(history)
+    if not isinstance(value, (Mending, Unmended)) or not is_rising(value.stays, 1, LINES):
         return False
-    return is_same_mending(value, mending(history, value.stays))
+    return all([line in up for line in value.stays]) and is_same_mending(value, mending(history, value.stays))
 
 
 def shows_repair(history, prices, value):

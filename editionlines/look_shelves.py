@@ -1,6 +1,6 @@
 """Whether what is told of the choices of a shelf is right, looked at without a search."""
 
-from editionlines.checks import is_within
+from editionlines.checks import is_rising, is_within
 from editionlines.judging import Broken, Holds
 from editionlines.look_judging import shows_judged
 from editionlines.shelves import Choices, Choosing, NoChoice, is_met, lies_in
@@ -23,9 +23,7 @@ def are_holds(asked, choice, value):
 
 def is_choice(asked, value):
     """Whether any value is an ascending tuple of indexes of clauses that are not out."""
-    if not isinstance(value, tuple) or not all([is_within(at, 0, len(asked.shelf) - 1) for at in value]):
-        return False
-    return all([at in asked.free for at in value]) and all([one < other for one, other in zip(value, value[1:])])
+    return is_rising(value, 0, len(asked.shelf) - 1) and all([at in asked.free for at in value])
 
 
 def are_least(asked, least):

@@ -1,7 +1,7 @@
 """Webs: from which days days are made, and what is made again with them."""
 
 from editionlines.bounds import LINES
-from editionlines.checks import is_within
+from editionlines.checks import is_rising, is_within
 from editionlines.dues import refuse_day
 from editionlines.errors import BadWeb, NoDay, TooMany
 from editionlines.papers import Paper, kept_value
@@ -39,13 +39,6 @@ def take_tie(words, last):
     words.take("back")
     is_beside = (line, source) == (last[0], last[1])
     return (line, source, words.take_number(last[2] + 1 if is_beside else 0, MOST_BACK))
-
-
-def are_lines(value):
-    """Whether any value is an ascending tuple of integers from 1 to 6."""
-    if not isinstance(value, tuple) or not all([is_within(line, 1, LINES) for line in value]):
-        return False
-    return all([one < other for one, other in zip(value, value[1:])])
 
 
 class Web:
@@ -114,7 +107,7 @@ class Web:
 
     def cut_to(self, lines):
         """The web of the ties of some lines, which are numbered anew."""
-        if not are_lines(lines):
+        if not is_rising(lines, 1, LINES):
             raise BadWeb("lines")
         left = [tie for tie in self.ties if tie[0] in lines and tie[1] in lines]
         ties = [(lines.index(line) + 1, lines.index(source) + 1, back) for line, source, back in left]
