@@ -123,6 +123,15 @@ def groups_of(function):
     return first
 
 
+def is_text(node):
+    """Whether an expression is itself a text, an f-string, str(..), repr(..) or the join of a written text."""
+    if isinstance(node, ast.Call):
+        if isinstance(node.func, ast.Attribute):
+            return node.func.attr == "join" and isinstance(node.func.value, ast.Constant)
+        return node.func.id in ("str", "repr")
+    return isinstance(node, ast.JoinedStr) or (isinstance(node, ast.Constant) and isinstance(node.value, str))
+
+
 def walked_names(node):
     """What a loop over an expression walks, also through enumerate, zip and the like."""
     if not isinstance(node, ast.Call):
@@ -394,13 +403,11 @@ class FormsTest(unittest.TestCase):
 
     def test_returns_of_double_underscores(self):
         for name, node in nodes(ast.FunctionDef):
-            told = [ast.unparse(part.value) for part in ast.walk(node) if isinstance(part, ast.Return) and part.value]
+            told = [part.value for part in ast.walk(node) if isinstance(part, ast.Return)]
             if node.name in ("__str__", "__repr__"):
-                for text in told:
-                    self.assertRegex(text, r"""^(f?'[^']*'|f".*"|(str|repr)\(.*\)|'[^']*'\.join\(.*\))$""", (name, node.lineno))
+                self.assertTrue(all(is_text(part) for part in told), (name, node.lineno))
             if node.name == "__len__":
-                for text in told:
-                    self.assertRegex(text, r"^(len\(.*\)|\d+)$", (name, node.lineno))
+                self.assertTrue(all(isinstance(part, ast.Call) and part.func.id == "len" for part in told), (name, node.lineno))
             if node.name == "__init__":
                 self.assertEqual(told, [], (name, node.lineno))
 
