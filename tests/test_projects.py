@@ -94,6 +94,8 @@ class ProjectTest(EditionTest):
         self.assertTrue("g" in project)
         self.assertEqual(len(project), 8)
         self.assertEqual([str(deed) for deed in project][-2:], ["end 2", "unfix g"])
+        # What main alone has counts, and what no line and main not.
+        self.assertEqual(["f" in made("f g : cut, fix f"), "g" in made("f g : cut, fix f")], [True, False])
 
     def test_beside_a_history(self):
         seen = {}
