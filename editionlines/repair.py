@@ -82,7 +82,7 @@ def refuse_stays(history, stays):
         raise BadPlace("up")
 
 
-def tests_of(ground, stays, renewed):
+def tested_pairs(ground, stays, renewed):
     """The tuple of the pairs of lines that must be tested, of those that stay."""
     untried = [(one[0], other[0]) for one, other in untried_places(ground, live_places(ground))]
     pairs = [(one, other) for one in stays for other in stays if one < other]
@@ -117,7 +117,7 @@ def mending(history, stays):
         lots[line] = wanted
         ahead = ahead | wanted
     downs = tuple([line for line in up_lines(history) if line not in stays])
-    tests = tests_of(ground, stays, renewed)
+    tests = tested_pairs(ground, stays, renewed)
     told = tuple([lots[line] for line in stays])
     return Mending(tuple(stays), told, downs, tuple(carried), tuple(renewed), tests, redone_days(ground, lots))
 
@@ -128,7 +128,7 @@ def mendings(history):
         yield mending(history, stays)
 
 
-def test_of(renewed, one, other):
+def deed_of_test(renewed, one, other):
     """The deed by which two lines are tested, ahead of the renewed ones going live."""
     if one in renewed and other in renewed:
         return Try(one, other)
@@ -149,7 +149,7 @@ def steps_of(mending):
                 yield Carry(fix, line)
         yield Offer(line)
     for one, other in mending.tests:
-        yield test_of(mending.renewed, one, other)
+        yield deed_of_test(mending.renewed, one, other)
     for line in mending.renewed:
         yield Down(line)
     for line in mending.renewed:
@@ -181,10 +181,10 @@ def least_repair(history, prices):
     best = None
     for at, (stays, price) in enumerate(rows):
         if price is not None:
-            told = (price, -len(stays), stays, at)
+            # Of equal ones the first one stays the best: its tuple is the least.
+            told = (price, -len(stays), at)
             if best is None or told < best:
                 best = told
     if best is None:
         return NoRepair(rows)
-    price, _, _, at = best
-    return Repair(price, found[at], rows)
+    return Repair(best[0], found[best[2]], rows)
