@@ -109,8 +109,9 @@ def takedown_answer(page, things):
 
 def rollout_answer(page, things):
     """How the last releases go live, some lines being kept."""
+    history = page.project.history_now
     lines = things[0]
-    found = rollout(page.project.history_now, *lines)
+    found = rollout(history, *lines)
     return deeds_text(found.deeds) if found else "stuck"
 
 
@@ -135,8 +136,10 @@ def late_answer(page, things):
 
 def remade_answer(page, things):
     """What is made again by the web if some days are, and what is left."""
+    history = page.project.history_now
+    web = page.web
     days = things[0]
-    found = again(page.project.history_now, page.web, *days)
+    found = again(history, web, *days)
     return f"{spaced(found.days)} : {spaced(found.left)}"
 
 
