@@ -95,6 +95,26 @@ class DuesTest(EditionTest):
             self.assertEqual(Wish.for_clerks()(history.ground), not gone)
         self.assertTrue(min(counts.values()) > 20 and dropped > 20, (counts, dropped))
 
+    def test_histories_cut_down(self):
+        """What is told of days is told of kept things: with all fixes likewise, and of each fix by itself in all together."""
+        many = 0
+        for rng in randoms("dues cut down", 40):
+            history = busy_history(rng, lines=2, many=50, fixes=("f", "g"), days=8, kinds=DAY_KINDS)
+            ground = history.ground
+            for lines in ((1,), (2,), (1, 2)):
+                days = [day for day in range(1, ground.day_count + 1) if ground.line_of(day) in lines and rng.random() < 0.8]
+                short = history.only(history.lot, lines, days)
+                self.assertEqual([day_word(short, at + 1) for at in range(len(days))], [day_word(history, day) for day in days])
+                told = [(days.index(day) + 1, days.index(later) + 1, fix) for day, later, fix in dropped_days(history)
+                        if day in days and later in days]
+                self.assertEqual(list(dropped_days(short)), told)
+                for at, day in enumerate(days):
+                    each = {day_word(history.only(history.lot[k:k + 1], lines, days), at + 1) for k in range(len(history.lot))}
+                    word = day_word(history, day)
+                    self.assertTrue(each <= {word, "even"} and word in each, (each, word))
+                    many += len(each) > 1
+        self.assertGreater(many, 20)
+
     def test_unlike_lines_and_days_that_are_not_shut(self):
         history = History.read("f : fix f, cut, offer 1, live 1, day 1, unfix f, cut, offer 2, live 2, day 2, shut 1, shut 2")
         self.assertEqual(dropped_days(history), ())

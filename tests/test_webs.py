@@ -172,6 +172,23 @@ class WebTest(EditionTest):
 
 
 class AgainTest(EditionTest):
+    def test_in_a_history_cut_down(self):
+        """What is made again in a history cut down is made again in it; all of it, if no tie leads through other lines."""
+        many = 0
+        for rng, history, ties in samples("again cut down", 60):
+            for lines in ((1, 2), (1, 3), (2, 3), (1,)):
+                days = [day for day in range(1, history.ground.day_count + 1) if history.ground.line_of(day) in lines]
+                if days:
+                    short, some = history.only(history.lot, lines, days), rng.choice(days)
+                    web = Web(*ties)
+                    inner = Web(*[tie for tie in ties if tie[0] in lines and tie[1] in lines])
+                    less = again(short, web.cut_to(lines), days.index(some) + 1)
+                    told = Again(tuple(days[at - 1] for at in less.days), tuple(days[at - 1] for at in less.left))
+                    self.assertEqual(told, again(history, inner, some))
+                    self.assertTrue(set(told.days) <= set(again(history, web, some).days))
+                    many += len(told.days) > 1
+        self.assertGreater(many, 10)
+
     def test_papers(self):
         self.assertIsInstance(Again(days=(), left=()), Paper)
         self.assertNotIsInstance(Again((), ()), Denial)
