@@ -1,9 +1,11 @@
 """Prices: what the deeds of a mending cost."""
 
-from editionlines.checks import is_integer, is_within
-from editionlines.deeds import Carry, Deed, Down, Live, Meet, Offer, OfTwo, Redo
-from editionlines.errors import BadDeed, BadPrice, BadText
+from editionlines.bounds import DAYS, LINES
+from editionlines.checks import is_fix, is_integer, is_within
+from editionlines.deeds import Carry, Down, Live, Meet, Offer, OfTwo, Redo
+from editionlines.errors import BadDeed, BadPrice
 from editionlines.takedowns import MOST_PRICE
+from editionlines.words import number_of
 
 
 def is_price(value):
@@ -11,13 +13,25 @@ def is_price(value):
     return value is None or is_within(value, 0, MOST_PRICE)
 
 
+def is_line_word(word):
+    """Whether a word writes the number of a line."""
+    return number_of(word, 1, LINES) is not None
+
+
 def is_special(value):
     """Whether any value is the text of a deed that can have a price of its own."""
-    try:
-        deed = Deed.read(value)
-    except BadText:
+    if not isinstance(value, str):
         return False
-    return isinstance(deed, (Carry, Meet, Redo, Down))
+    # Not by Deed.read, which takes words off an object: the signs of Prices run this, too, and change nothing.
+    kind, *named = value.split(" ")
+    if kind == "carry":
+        return len(named) == 2 and is_fix(named[0]) and is_line_word(named[1])
+    if kind == "meet":
+        lines = [number_of(word, 1, LINES) for word in named]
+        return len(lines) == 2 and None not in lines and lines[0] < lines[1]
+    if kind == "redo":
+        return len(named) == 1 and number_of(named[0], 1, DAYS) is not None
+    return kind == "down" and len(named) == 1 and is_line_word(named[0])
 
 
 def bounded(price):

@@ -1,10 +1,13 @@
 """Prices of deeds, alone and together."""
 
+import itertools
 import unittest
+from unittest import mock
 
 from editionlines.deeds import Carry, Deed, Down, Live, Meet, Offer, Probe, Redo, Try
-from editionlines.errors import BadDeed, BadPrice
+from editionlines.errors import BadDeed, BadPrice, BadText
 from editionlines.prices import Prices
+from editionlines.words import Words
 from tools import EditionTest, any_values, randoms, same
 
 MOST = 10 ** 12
@@ -74,6 +77,25 @@ class PricesTest(EditionTest):
             self.refuses(BadPrice("special"), Prices, special={text: 1})
         self.refuses(BadPrice("special"), Prices, special=[("down 1", 1)])
 
+    def test_which_texts_can_have_a_special_price(self):
+        words = ["", "0", "1", "2", "5", "6", "7", "10", "199", "200", "201", "01", "-1", "+1", "1.0", "f", "abcdefgh", "abcdefghi", "F",
+                 "f1", "to", "\n", "1\n", "x" * 6000, "9" * 6000]
+        kinds = [*Deed.KINDS, "", "Carry", "down\n"]
+        texts = [" ".join([kind, *row]) for kind in kinds for many in range(3) for row in itertools.product(words, repeat=many)]
+        texts += [" ".join([kind, *row]) for kind in ("carry", "meet", "redo", "down") for row in itertools.product(words[:6], repeat=3)]
+        found = 0
+        for text in texts:
+            try:
+                wanted = isinstance(Deed.read(text), (Carry, Meet, Redo, Down))
+            except BadText:
+                wanted = False
+            found += wanted
+            if wanted:
+                self.assertEqual(Prices(special={text: 9})(Deed.read(text)), 9, text)
+            else:
+                self.refuses(BadPrice("special"), Prices, special={text: 9})
+        self.assertEqual(found, 30)
+
     def test_what_has_no_price(self):
         prices = Prices(1, 1, 1, 1)
         for value in any_values() + [Deed.read(text) for text in UNPRICED] + ["down 1"]:
@@ -118,6 +140,18 @@ class PricesTest(EditionTest):
         self.assertEqual(Prices(None) * 0, Prices(None, 0, 0))
         # A special price beside a plain one of the other.
         self.assertEqual(Prices(special={"down 1": 4}) + Prices(down=2), Prices(2, 2, 2, special={"down 1": 6}))
+
+    def test_signs_read_no_words_and_change_nothing(self):
+        for rng in randoms("prices stay", 30):
+            (plain, special, one), (others, told, other) = random_prices(rng), random_prices(rng)
+            with mock.patch.object(Words, "__init__", side_effect=AssertionError("words are taken")):
+                both, often, again = one + other, one * 3, 3 * one
+            self.assertEqual(often, again)
+            self.assertEqual(one, Prices(*plain, special))
+            self.assertEqual(other, Prices(*others, told))
+            # What was made goes its own way, and can be put together again.
+            self.assertEqual(both + one, one + (other + one))
+            self.assertEqual([one, other], [Prices(*plain, special), Prices(*others, told)])
 
     def test_errors_of_signs(self):
         prices = Prices()
