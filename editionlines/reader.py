@@ -158,9 +158,7 @@ def read_answer(text):
 def take_clause(words, last):
     """The Clause that a row tells, greater than the last one, if that is not None."""
     words.take("clause")
-    # No clause of a lesser kind is greater than the one ahead, whatever follows its first word.
-    if last is not None and list(words)[1:] and list(words)[1] < last.kind:
-        words.refuse()
+    # Only what is a clause can be less than the one ahead of it.
     clause = take_thing(words, lambda text: Clause.read(text))
     if last is not None and str(clause) <= str(last):
         words.refuse()

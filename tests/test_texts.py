@@ -289,9 +289,10 @@ class ProjectTextTest(RowsTest):
     def test_clauses_in_order(self):
         head = "lot f g\nneeds -\nclause drop once: never\nclause "
         self.refuses_rows(read_project, [
-            (head + "drop once: never", 3, 1), (head + "carry once: never", 3, 1), (head + "carry once: bogus", 3, 1), (head + "cut", 3, 1),
+            (head + "drop once: never", 3, 1), (head + "carry once: never", 3, 1), (head + "carry once: bogus", 3, 3), (head + "cut", 3, 2),
             (head + "drop elder: never", 3, 1), (head + "drop once: own x", 3, 4), (head + "drop x", 3, 2), (head + "bogus", 3, 1),
-            (head + "zzz", 3, 1), (head + "drop once: main has", 3, 1), (head[:-1], 3, 1), (head, 3, 1)])
+            (head + "zzz", 3, 1), (head + "drop once: main has", 3, 1), (head[:-1], 3, 1), (head, 3, 1), (head + "cut once: never x", 3, 4),
+            (head + "carry once: main has or", 3, 6), (head + "carry elder: own has or main has", 3, 6), (head + "carry  once: never", 3, 2)])
         texts = [f"{kind} {scope}: never" for kind in ("carry", "cut", "drop", "end", "fix") for scope in ("elder", "newer", "need", "once", "user")]
         texts = sorted(texts)
         rows = ["lot f", "needs -"] + ["clause " + text for text in texts[:24]]
@@ -299,6 +300,32 @@ class ProjectTextTest(RowsTest):
         self.refuses_rows(read_project, [
             ("\n".join(rows + ["clause " + texts[24]]), 26, 0), ("\n".join(rows + ["clause cut once: never"]), 26, 1),
             ("\n".join(rows + ["clause unfix once: x"]), 26, 3), ("\n".join(rows + ["clause unfix once: never", "x"]), 26, 0)])
+
+    def test_what_is_no_clause_is_told_as_by_its_read(self):
+        texts = [f"{kind} {scope}{end}" for kind in (*Deed.KINDS, "", "zzz") for scope in (*Clause.SCOPES, "often", "")
+                 for end in ("", ":", ": never", ": never x", ": own", ": own open or", ": own open or main open", ": sometimes")]
+        for last in ("carry once: never", "offer once: never", "unfix once: own open"):
+            head = f"lot f\nneeds -\nclause {last}\nclause "
+            for text in texts:
+                try:
+                    told = str(Clause.read(text)) > last
+                except BadText as error:
+                    self.refuses(BadText(3, error.word + 1), read_project, head + text)
+                else:
+                    if told:
+                        self.assertEqual(project_text(read_project(head + text)), head + text)
+                    else:
+                        self.refuses(BadText(3, 1), read_project, head + text)
+
+    def test_a_row_behind_the_last_clause(self):
+        texts = [f"{kind} once: never" for kind in sorted(Deed.KINDS)]
+        texts = sorted(texts + [f"{kind} elder: never" for kind in ("carry", "cut", "drop", "end", "fix")])
+        head = "\n".join(["lot f", "needs -"] + ["clause " + text for text in texts]) + "\nclause "
+        self.assertEqual(len(texts), 24)
+        # What is no clause, what is no greater one, and what is one too many.
+        self.refuses_rows(read_project, [
+            (head + "cut once:", 26, 3), (head + "cut", 26, 2), (head + "cut once: never", 26, 1), (head + "unfix user: never", 26, 0),
+            (head + "unfix user: always", 26, 3)])
 
     def test_many_deeds(self):
         rows = ["lot f", "needs -"] + ["deed fix f", "deed unfix f"] * 500
